@@ -1,0 +1,1 @@
+"""Mathboxes: how formulas become boxes."""

@@ -1,0 +1,83 @@
+"""Fonts: the glyphs and the numbers by which formulas become boxes."""
+
+from mathboxes.errors import InvalidArgument, InvalidFont, InvalidNumber, NoGlyph
+from mathboxes.faces import SETTING_WORDS
+from mathboxes.faces import check_families, check_numbers, check_place, check_settings, is_number_for
+from mathboxes.kinds import is_between, is_name, is_size
+
+
+class Fonts:
+    """Families of faces with their numbers and settings; they never change."""
+
+    def __init__(self, families, numbers, settings, *, skew=None):
+        check_families(families)
+        check_numbers(numbers)
+        check_settings(settings)
+        if skew is not None and not is_name(skew):
+            raise InvalidFont("skew", ())
+        self._families = [copied_family(family) for family in families]
+        self._numbers = [dict(table) for table in numbers]
+        self._settings = dict(settings)
+        self._skew = skew
+
+    def __eq__(self, other):
+        return (
+            isinstance(other, Fonts) and self._families == other._families and self._numbers == other._numbers
+            and self._settings == other._settings and self._skew == other._skew
+        )
+
+    def family_count(self):
+        return len(self._families)
+
+    def glyph(self, family, size, name):
+        if not is_between(family, 0, len(self._families) - 1):
+            raise InvalidArgument("family")
+        if not is_size(size):
+            raise InvalidArgument("size")
+        if not is_name(name):
+            raise InvalidArgument("name")
+        glyphs = self._families[family][size][0]
+        if name not in glyphs:
+            raise NoGlyph(family, name)
+        return glyphs[name]
+
+    def chain(self, family, size, name):
+        """The names of a glyph, of its next one, and so on."""
+        later = self.glyph(family, size, name)[4]
+        names = [name]
+        while later is not None:
+            names.append(later)
+            later = self.glyph(family, size, later)[4]
+        return names
+
+    def number_at(self, word, size):
+        check_place(word, size)
+        if word in SETTING_WORDS:
+            return self._settings[word]
+        return self._numbers[size][word]
+
+    def changed(self, word, size, number):
+        """Fonts with another number at one place."""
+        check_place(word, size)
+        if not is_number_for(word, number):
+            raise InvalidNumber(number)
+        numbers = [dict(table) for table in self._numbers]
+        settings = dict(self._settings)
+        if word in SETTING_WORDS:
+            settings[word] = number
+        else:
+            numbers[size][word] = number
+        empty = ({}, {}, False)
+        fonts = Fonts([(empty, empty, empty)], tuple(numbers), settings, skew=self._skew)
+        # Families never change, so both may have the same ones, which need no second check.
+        fonts._families = self._families
+        return fonts
+
+
+def copied_family(family):
+    return tuple([copied_face(face) for face in family])
+
+
+def copied_face(face):
+    glyphs, pairs, spaced = face
+    return dict(glyphs), {pair: pairs[pair] for pair in pairs}, spaced

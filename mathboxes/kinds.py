@@ -1,0 +1,108 @@
+"""The plain kinds of values: each function tells whether any value at all is of its kind."""
+
+LIMIT = 10 ** 60
+MOST_FAMILIES = 4
+SIZES = 3
+MOST_LETTERS = 8
+
+SYMBOL_CLASSES = ("ord", "bin", "rel", "open", "close", "punct")
+LIST_CLASSES = ("ord", "bin", "rel", "open", "close", "punct", "op", "inner")
+MOST_COLUMNS = 12
+MOST_SIGNS = 36
+
+
+def is_integer(value):
+    # Python counts a bool among the integers; the document does not.
+    return isinstance(value, int) and not isinstance(value, bool)
+
+
+def is_between(value, least, greatest):
+    return is_integer(value) and least <= value <= greatest
+
+
+def is_amount(value):
+    """An integer from 0 to 10 ** 60."""
+    return is_between(value, 0, LIMIT)
+
+
+def is_signed(value):
+    """An integer from -10 ** 60 to 10 ** 60."""
+    return is_between(value, -LIMIT, LIMIT)
+
+
+def is_word(value, words):
+    # Only strings are compared: a comparison of bytes with strings may warn.
+    return isinstance(value, str) and value in words
+
+
+def is_name(value):
+    if not isinstance(value, str) or not 1 <= len(value) <= MOST_LETTERS:
+        return False
+    return all(["a" <= sign <= "z" for sign in value])
+
+
+def is_row(value, many):
+    """A tuple of so many values."""
+    return isinstance(value, tuple) and len(value) == many
+
+
+def is_sequence(value):
+    return isinstance(value, (list, tuple))
+
+
+def is_family(value):
+    """What a formula or a mark may tell as a family; fonts may have fewer."""
+    return is_between(value, 0, MOST_FAMILIES - 1)
+
+
+def is_size(value):
+    return is_between(value, 0, SIZES - 1)
+
+
+def is_path(value):
+    if not isinstance(value, tuple):
+        return False
+    return all([is_integer(step) and step >= 0 for step in value])
+
+
+def is_delimiter(value):
+    if value is None:
+        return True
+    if not is_row(value, 4):
+        return False
+    return is_family(value[0]) and is_name(value[1]) and is_family(value[2]) and is_name(value[3])
+
+
+def is_symbol_class(value):
+    return is_word(value, SYMBOL_CLASSES)
+
+
+def is_list_class(value):
+    return is_word(value, LIST_CLASSES)
+
+
+def is_limits(value):
+    return is_word(value, ("display", "always", "never"))
+
+
+def is_thickness(value):
+    return value is None or is_amount(value)
+
+
+def is_unit(value):
+    return is_word(value, ("units", "mu"))
+
+
+def is_told_style(value):
+    """A style as a style item tells it: never a cramped one."""
+    return is_integer(value) and value in (0, 2, 4, 6)
+
+
+def is_columns(value):
+    if not isinstance(value, str) or len(value) > MOST_SIGNS:
+        return False
+    return all([sign in "lcr|" for sign in value]) and 1 <= letter_count(value) <= MOST_COLUMNS
+
+
+def letter_count(columns):
+    return len(columns.replace("|", ""))

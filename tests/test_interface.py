@@ -1,0 +1,96 @@
+"""The names, parameters and errors that the interface lists (points 2 and 4 to 21)."""
+
+import inspect
+import unittest
+
+from mathboxes import boxes, errors, fonts, formulas
+
+ERRORS = {
+    "InvalidFont": ("part", "at"),
+    "InvalidFormula": ("path",),
+    "InvalidBox": ("part",),
+    "InvalidArgument": ("part",),
+    "InvalidNumber": ("number",),
+    "InvalidPath": ("path",),
+    "NoGlyph": ("family", "name"),
+    "LimitExceeded": ("limit",),
+}
+
+FUNCTIONS = {
+    fonts: {},
+    boxes: {
+        "check_box": "(box)",
+        "beside": "(boxes)",
+        "moved": "(box, dx, dy)",
+        "together": "(width, height, depth, placed)",
+        "widened": "(box, width)",
+        "ink": "(box)",
+        "same_ink": "(one, other)",
+        "first_unlike": "(one, other)",
+        "extent": "(fonts, box)",
+    },
+    formulas: {
+        "check_formula": "(formula)",
+        "paths": "(formula)",
+        "count": "(formula)",
+        "depth_of": "(formula)",
+        "item_at": "(formula, path)",
+        "replaced": "(formula, path, item)",
+        "symbols": "(formula)",
+    },
+}
+
+METHODS = {
+    fonts.Fonts: {
+        "__init__": "(self, families, numbers, settings, *, skew=None)",
+        "__eq__": "(self, other)",
+        "family_count": "(self)",
+        "glyph": "(self, family, size, name)",
+        "chain": "(self, family, size, name)",
+        "number_at": "(self, word, size)",
+        "changed": "(self, word, size, number)",
+    },
+    boxes.Box: {
+        "__init__": "(self, width, height, depth, marks=())",
+        "__eq__": "(self, other)",
+    },
+}
+
+
+class Interface(unittest.TestCase):
+
+    def test_errors(self):
+        self.assertEqual(errors.FormulaError.__bases__, (ArithmeticError,))
+        for name, attributes in ERRORS.items():
+            kind = getattr(errors, name)
+            self.assertEqual(kind.__bases__, (errors.FormulaError,))
+            self.assertEqual(kind.__module__, "mathboxes.errors")
+            values = [object() for _ in attributes]
+            for error in (kind(*values), kind(**dict(zip(attributes, values)))):
+                self.assertEqual(vars(error), dict(zip(attributes, values)))
+
+    def test_functions(self):
+        for module, functions in FUNCTIONS.items():
+            for name, parameters in functions.items():
+                function = getattr(module, name)
+                self.assertTrue(inspect.isfunction(function), name)
+                self.assertEqual(function.__module__, module.__name__)
+                self.assertEqual(str(inspect.signature(function)), parameters, name)
+
+    def test_methods_stand_in_their_classes(self):
+        for kind, methods in METHODS.items():
+            for name, parameters in methods.items():
+                self.assertEqual(str(inspect.signature(vars(kind)[name])), parameters, name)
+        self.assertEqual(fonts.Fonts.__module__, "mathboxes.fonts")
+        self.assertEqual(boxes.Box.__module__, "mathboxes.boxes")
+
+    def test_arguments_by_name(self):
+        box = boxes.Box(marks=(), depth=1, height=2, width=3)
+        self.assertEqual(boxes.moved(dy=1, dx=2, box=box), boxes.Box(5, 3, 0))
+        self.assertEqual(boxes.together(placed=[], depth=1, height=2, width=3), box)
+        item = ("kern", 1, "mu")
+        self.assertEqual(formulas.replaced(item=item, path=(0,), formula=[("style", 0)]), [item])
+
+
+if __name__ == "__main__":
+    unittest.main()
