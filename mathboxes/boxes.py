@@ -1,7 +1,7 @@
 """Boxes: sizes with marks in their places, and how they are put together."""
 
+from mathboxes.checks import check_fonts, check_signed
 from mathboxes.errors import InvalidArgument, InvalidBox, NoGlyph
-from mathboxes.fonts import Fonts
 from mathboxes.kinds import is_family, is_name, is_path, is_row, is_sequence, is_signed, is_size, is_word
 
 
@@ -23,16 +23,30 @@ class Box:
 
 
 def check_box(box):
+    part = wrong_part(box)
+    if part is not None:
+        raise InvalidBox(part)
+
+
+def check_box_argument(box, name):
+    """As check_box, for functions that tell only which parameter is wrong."""
+    if wrong_part(box) is not None:
+        raise InvalidArgument(name)
+
+
+def wrong_part(box):
+    """The first part by which a value is no box, or None if it is one."""
     if not isinstance(box, Box):
-        raise InvalidBox("box")
+        return "box"
     if not is_signed(box.width):
-        raise InvalidBox("width")
+        return "width"
     if not is_signed(box.height):
-        raise InvalidBox("height")
+        return "height"
     if not is_signed(box.depth):
-        raise InvalidBox("depth")
+        return "depth"
     if not isinstance(box.marks, list) or not all([is_placed_mark(placed) for placed in box.marks]):
-        raise InvalidBox("marks")
+        return "marks"
+    return None
 
 
 def is_placed_mark(value):
@@ -53,11 +67,6 @@ def is_rule_mark(value):
     if not (is_row(value, 4) and is_word(value[0], ("rule",)) and is_path(value[1])):
         return False
     return is_signed(value[2]) and is_signed(value[3])
-
-
-def check_signed(value, part):
-    if not is_signed(value):
-        raise InvalidArgument(part)
 
 
 def beside(boxes):
@@ -90,6 +99,11 @@ def moved(box, dx, dy):
     check_box(box)
     check_signed(dx, "dx")
     check_signed(dy, "dy")
+    return put_moved(box, dx, dy)
+
+
+def put_moved(box, dx, dy):
+    """As moved, without its checks."""
     return Box(box.width + dx, box.height + dy, box.depth - dy, marks_moved(box, dx, dy))
 
 
@@ -159,8 +173,7 @@ def unlike_ink(one, other):
 
 def extent(fonts, box):
     """How far the marks of a box reach: left, right, top and bottom."""
-    if not isinstance(fonts, Fonts):
-        raise InvalidArgument("fonts")
+    check_fonts(fonts)
     check_box(box)
     if not box.marks:
         return None
@@ -174,12 +187,7 @@ def reach(fonts, x, y, mark):
     """Both ends of a mark across, and both upwards."""
     if mark[0] == "rule":
         return (x, x + mark[2]), (y, y + mark[3])
-    glyph = glyph_of(fonts, mark[2], mark[3], mark[4])
+    glyph = fonts.glyph_if_any(mark[2], mark[3], mark[4])
+    if glyph is None:
+        raise NoGlyph(mark[2], mark[4])
     return (x, x + glyph[0]), (y - glyph[2], y + glyph[1])
-
-
-def glyph_of(fonts, family, size, name):
-    # A mark may tell a family that these fonts do not have: its glyph lacks, too.
-    if family >= fonts.family_count():
-        raise NoGlyph(family, name)
-    return fonts.glyph(family, size, name)

@@ -50,6 +50,26 @@ class Fonts:
             later = self.glyph(family, size, later)[4]
         return names
 
+    # The next four serve the package itself: they take what was checked before.
+
+    def glyph_if_any(self, family, size, name):
+        """A glyph, or None if the family is not there or its face has no such glyph."""
+        if family >= len(self._families):
+            return None
+        return self._families[family][size][0].get(name)
+
+    def pair_if_any(self, family, size, first, second):
+        """What becomes of two glyphs that stand side by side, or None."""
+        if family >= len(self._families):
+            return None
+        return self._families[family][size][1].get((first, second))
+
+    def number_of(self, word, size):
+        return self._numbers[size][word]
+
+    def setting_of(self, word):
+        return self._settings[word]
+
     def number_at(self, word, size):
         check_place(word, size)
         if word in SETTING_WORDS:

@@ -3,6 +3,7 @@
 LIMIT = 10 ** 60
 MOST_FAMILIES = 4
 SIZES = 3
+STYLES = 8
 MOST_LETTERS = 8
 
 SYMBOL_CLASSES = ("ord", "bin", "rel", "open", "close", "punct")
@@ -57,6 +58,10 @@ def is_family(value):
 
 def is_size(value):
     return is_between(value, 0, SIZES - 1)
+
+
+def is_style(value):
+    return is_between(value, 0, STYLES - 1)
 
 
 def is_path(value):

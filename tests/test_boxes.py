@@ -4,27 +4,7 @@ import unittest
 
 from mathboxes.boxes import Box, beside, check_box, extent, first_unlike, ink, moved, same_ink, together, widened
 from mathboxes.errors import InvalidArgument, InvalidBox, NoGlyph
-from tests.samples import LIMIT, Case, a_family, fonts_of, odd_values, some_fonts
-
-
-def rule(x=0, y=0, width=3, height=1, path=(0,)):
-    return (x, y, ("rule", path, width, height))
-
-
-def glyph(x=0, y=0, name="a", family=0, size=0, path=(0,)):
-    return (x, y, ("glyph", path, family, size, name))
-
-
-def wrong_boxes():
-    """Wrong boxes by the part that is told; the parts behind it are wrong, too."""
-    found = [("box", value) for value in [None, 0, (3, 2, 1, [])] + odd_values() if not isinstance(value, Box)]
-    for value in [LIMIT + 1, -LIMIT - 1, None] + odd_values():
-        found.append(("width", Box(value, None, None, [0])))
-        found.append(("height", Box(1, value, None, [0])))
-        found.append(("depth", Box(1, 2, value, [0])))
-        if value != [] and not isinstance(value, (str, bytes)):
-            found.append(("marks", Box(1, 2, 3, [value])))
-    return found
+from tests.samples import LIMIT, Case, a_family, fonts_of, glyph, odd_values, rule, some_fonts, wrong_boxes
 
 
 class Making(Case):

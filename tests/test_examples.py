@@ -3,6 +3,11 @@
 import doctest
 import unittest
 
+from mathboxes.accents import accent_steps, accented, centered, overlined
+from mathboxes.boxes import Box
+from mathboxes.scripts import rooms, ruling, shifts
+from tests.samples import fonts_with
+
 FONTS = '''
     >>> from mathboxes.fonts import Fonts
     >>> words = "xheight quad up1 up2 up3 down1 down2 sup1 sup2 sup3 sub1 sub2 supdrop subdrop delim1 delim2 axis rule".split()
@@ -32,6 +37,21 @@ FORMULAS = '''
     (2, [((0,), 0, 'x'), ((0, 4, 0), 0, 'b'), ((1,), 1, 'p'), ((1,), 2, 'q')])
 '''
 
+# What point 35 tells of arranged, with the fonts that it makes.
+LISTS = '''
+    >>> from mathboxes.fonts import Fonts
+    >>> from mathboxes.lists import arranged
+    >>> words = "xheight quad up1 up2 up3 down1 down2 sup1 sup2 sup3 sub1 sub2 supdrop subdrop delim1 delim2 axis rule".split()
+    >>> words = words + "gap1 gap2 gap3 gap4 gap5".split()
+    >>> numbers = dict.fromkeys(words, 100)
+    >>> settings = dict.fromkeys("scriptspace factor short empty thin medium thick baseline apart column indent".split(), 3)
+    >>> face = ({"a": (500, 400, 0, 20, None, None), "plus": (700, 600, 80, 0, None, None)}, {}, False)
+    >>> fonts = Fonts([(face, face, face)], (numbers, numbers, numbers), settings)
+    >>> a, p = ("symbol", "ord", 0, "a", None, None), ("symbol", "bin", 0, "plus", None, None)
+    >>> [arranged(fonts, [p, a], 2), arranged(fonts, [a, p, a], 4)[1]]
+    [[((0,), 'ord', 2, 0, 0), ((1,), 'ord', 2, 0, 0)], ((1,), 'bin', 4, 0, 0)]
+'''
+
 
 class Examples(unittest.TestCase):
 
@@ -49,6 +69,54 @@ class Examples(unittest.TestCase):
 
     def test_formulas(self):
         self.run_example(FORMULAS, 4)
+
+    def test_lists(self):
+        self.run_example(LISTS, 10)
+
+
+class ToldExamples(unittest.TestCase):
+    """The examples that the document tells in words."""
+
+    def setUp(self):
+        numbers = {
+            ("xheight", 0): 430, ("rule", 0): 40, ("sup1", 0): 410, ("sup2", 0): 360, ("sup3", 0): 290,
+            ("sub1", 0): 150, ("sub2", 0): 250, ("supdrop", 1): 390, ("subdrop", 1): 50,
+        }
+        self.fonts = fonts_with(numbers, {"scriptspace": 50})
+
+    def test_shifts(self):
+        nucleus = Box(0, 0, 0)
+        self.assertEqual(shifts(self.fonts, 0, nucleus, True, Box(300, 300, 0), Box(300, 300, 0)), (410, 250))
+        self.assertEqual(shifts(self.fonts, 0, nucleus, True, Box(300, 300, 200), Box(300, 500, 0)), (544, 316))
+
+    def test_ruling(self):
+        told = ruling(self.fonts, 0, Box(0, 0, 0), True, Box(300, 300, 200), Box(300, 500, 0))
+        self.assertEqual(told, ("font", "font", "lift"))
+
+    def test_rooms(self):
+        nucleus, sub = Box(0, 0, 0), Box(300, 300, 0)
+        self.assertEqual(rooms(self.fonts, 0, nucleus, True, Box(300, 300, 0), sub), (200, 200))
+        rise, fall = shifts(self.fonts, 0, nucleus, True, Box(300, 300, 200), sub)
+        self.assertEqual((rise, fall, rise - 201 - (300 - fall)), (410, 250, 159))
+
+    def test_overlined(self):
+        told = overlined(fonts_with({"rule": 40}), 0, Box(500, 300, 100))
+        self.assertEqual(told, Box(500, 500, 100, [(0, 420, ("rule", (), 500, 40))]))
+
+    def test_centered(self):
+        told = centered(fonts_with({"axis": 250}), 0, Box(500, 300, 101, [(0, 0, ("rule", (3,), 1, 1))]))
+        self.assertEqual(told, Box(500, 451, -50, [(0, 151, ("rule", (3,), 1, 1))]))
+
+    def test_accent_steps(self):
+        fonts = fonts_with(glyphs={
+            "hat": (300, 0, 0, 0, "wide", None), "wide": (500, 0, 0, 0, "wider", None), "wider": (400, 0, 0, 0, None, None),
+        })
+        self.assertEqual(accent_steps(fonts, 0, 0, "hat"), [(0, "hat"), (500, "wider")])
+
+    def test_accented(self):
+        fonts = fonts_with({"xheight": 430}, glyphs={"hat": (300, 700, 0, 0, None, None)})
+        told = accented(fonts, 0, 0, "hat", Box(500, 700, 0))
+        self.assertEqual(told, Box(500, 970, 0, [(100, 270, ("glyph", (), 0, 0, "hat"))]))
 
 
 if __name__ == "__main__":

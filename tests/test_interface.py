@@ -1,9 +1,9 @@
-"""The names, parameters and errors that the interface lists (points 2 and 4 to 21)."""
+"""The names, parameters and errors that the interface lists (points 2 and 4 to 56)."""
 
 import inspect
 import unittest
 
-from mathboxes import boxes, errors, fonts, formulas
+from mathboxes import accents, boxes, delimiters, errors, fonts, formulas, lists, scripts
 
 ERRORS = {
     "InvalidFont": ("part", "at"),
@@ -37,6 +37,36 @@ FUNCTIONS = {
         "item_at": "(formula, path)",
         "replaced": "(formula, path, item)",
         "symbols": "(formula)",
+    },
+    lists: {
+        "sup_style": "(style)",
+        "sub_style": "(style)",
+        "num_style": "(style)",
+        "den_style": "(style)",
+        "cramped": "(style)",
+        "space": "(one, other, style)",
+        "arranged": "(fonts, formula, style)",
+    },
+    scripts: {
+        "scripted": "(fonts, style, nucleus, is_glyph, slant, sup, sub)",
+        "shifts": "(fonts, style, nucleus, is_glyph, sup, sub)",
+        "ruling": "(fonts, style, nucleus, is_glyph, sup, sub)",
+        "rooms": "(fonts, style, nucleus, is_glyph, sup, sub)",
+    },
+    delimiters: {
+        "candidates": "(fonts, size, delimiter)",
+        "chosen": "(fonts, size, delimiter, least)",
+        "grown": "(fonts, size, delimiter, least)",
+        "totals": "(fonts, size, delimiter)",
+        "fence_least": "(fonts, size, height, depth)",
+        "root": "(fonts, style, delimiter, inner)",
+    },
+    accents: {
+        "overlined": "(fonts, style, inner)",
+        "underlined": "(fonts, style, inner)",
+        "centered": "(fonts, style, inner)",
+        "accented": "(fonts, style, family, name, inner, old_inner=None, skew=0)",
+        "accent_steps": "(fonts, family, size, name)",
     },
 }
 

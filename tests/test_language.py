@@ -95,6 +95,36 @@ class Language(unittest.TestCase):
                 if isinstance(node, ast.Name) and isinstance(node.ctx, ast.Load):
                     self.assertIn(node.id, BUILTINS | set(bound) | imported, (name, node.lineno))
 
+    def test_imports_and_classes_keep_their_names(self):
+        for name, tree in trees():
+            taken = {alias.name for node in tree.body if isinstance(node, ast.ImportFrom) for alias in node.names}
+            taken = taken | {node.name for node in tree.body if isinstance(node, ast.ClassDef)}
+            for function in ast.walk(tree):
+                if isinstance(function, ast.FunctionDef):
+                    local = {node.arg for node in ast.walk(function) if isinstance(node, ast.arg)}
+                    local = local | {
+                        node.id for node in ast.walk(function)
+                        if isinstance(node, ast.Name) and isinstance(node.ctx, ast.Store)
+                    }
+                    self.assertEqual(local & taken, set(), (name, function.name))
+
+    def test_imports_are_used(self):
+        for name, tree in trees():
+            used = {node.id for node in ast.walk(tree) if isinstance(node, ast.Name)}
+            taken = {alias.name for node in tree.body if isinstance(node, ast.ImportFrom) for alias in node.names}
+            self.assertEqual(taken - used, set(), name)
+
+    def test_no_circles(self):
+        needs = {
+            "mathboxes." + name[:-3]: {node.module for node in tree.body if isinstance(node, ast.ImportFrom)}
+            for name, tree in trees()
+        }
+        done = set()
+        while len(done) < len(needs):
+            ready = {name for name in needs if name not in done and needs[name] <= done}
+            self.assertTrue(ready, sorted(set(needs) - done))
+            done = done | ready
+
     def test_methods(self):
         own = {node.name for _, tree in trees() for node in ast.walk(tree) if isinstance(node, ast.FunctionDef)}
         for name, tree in trees():

@@ -1,0 +1,99 @@
+"""Bars, boxes on the axis, and accents."""
+
+from mathboxes.boxes import Box, check_box_argument, put_moved
+from mathboxes.checks import check_fonts, check_signed, check_style
+from mathboxes.measures import half, size_of
+
+
+def overlined(fonts, style, inner):
+    """A box with a bar above it."""
+    check_bar(fonts, style, inner)
+    return overlined_box(fonts, style, inner, ())
+
+
+def underlined(fonts, style, inner):
+    """A box with a bar below it."""
+    check_bar(fonts, style, inner)
+    return underlined_box(fonts, style, inner, ())
+
+
+def centered(fonts, style, inner):
+    """A box with its middle on the axis."""
+    check_bar(fonts, style, inner)
+    return centered_box(fonts, style, inner)
+
+
+def accent_steps(fonts, family, size, name):
+    """The accents of a chain for all widths, as tuples (the first width, name)."""
+    check_fonts(fonts)
+    found = []
+    width = 0
+    for at, taken in enumerate(fonts.chain(family, size, name)):
+        if at > 0:
+            width = max(width, fonts.glyph_if_any(family, size, taken)[0])
+        # From the same width on, a later one of the chain is taken instead.
+        if found and found[-1][0] == width:
+            found[-1] = (width, taken)
+        else:
+            found.append((width, taken))
+    return found
+
+
+def accented(fonts, style, family, name, inner, old_inner=None, skew=0):
+    """A box with an accent; another box may tell where the accent stands."""
+    check_fonts(fonts)
+    check_style(style)
+    fonts.glyph(family, size_of(style), name)
+    check_box_argument(inner, "inner")
+    if old_inner is not None:
+        check_box_argument(old_inner, "old_inner")
+    check_signed(skew, "skew")
+    old = inner if old_inner is None else old_inner
+    return accented_box(fonts, style, family, name, inner, old, skew, ())
+
+
+def check_bar(fonts, style, inner):
+    check_fonts(fonts)
+    check_style(style)
+    check_box_argument(inner, "inner")
+
+
+def overlined_box(fonts, style, inner, path):
+    """As overlined, without its checks, with marks of a path."""
+    thickness = fonts.number_of("rule", size_of(style))
+    bar = (0, inner.height + 3 * thickness, ("rule", path, inner.width, thickness))
+    return Box(inner.width, inner.height + 5 * thickness, inner.depth, inner.marks + [bar])
+
+
+def underlined_box(fonts, style, inner, path):
+    """As underlined, without its checks, with marks of a path."""
+    thickness = fonts.number_of("rule", size_of(style))
+    bar = (0, -inner.depth - 4 * thickness, ("rule", path, inner.width, thickness))
+    return Box(inner.width, inner.height, inner.depth + 5 * thickness, inner.marks + [bar])
+
+
+def centered_box(fonts, style, inner):
+    """As centered, without its checks."""
+    height = fonts.number_of("axis", size_of(style)) + half(inner.height + inner.depth)
+    return put_moved(inner, 0, height - inner.height)
+
+
+def accented_box(fonts, style, family, name, inner, old, skew, path):
+    """As accented, without its checks, with a mark of a path; the accent must be there."""
+    size = size_of(style)
+    taken = accent_taken(fonts, family, size, name, old.width)
+    glyph = fonts.glyph_if_any(family, size, taken)
+    inside = min(old.height, fonts.number_of("xheight", size)) + inner.height - old.height
+    baseline = inner.height - inside + glyph[2]
+    left = skew + half(old.width - (glyph[0] + glyph[3]))
+    marks = inner.marks + [(left, baseline, ("glyph", path, family, size, taken))]
+    return Box(inner.width, max(inner.height, baseline + glyph[1]), inner.depth, marks)
+
+
+def accent_taken(fonts, family, size, name, width):
+    """The name of the accent of a chain that is taken for a width."""
+    while True:
+        later = fonts.glyph_if_any(family, size, name)[4]
+        if later is None or fonts.glyph_if_any(family, size, later)[0] > width:
+            return name
+        name = later

@@ -1,0 +1,222 @@
+"""Delimiters that grow, and roots, whose sign is one of them."""
+
+from mathboxes.boxes import Box, check_box, put_beside, put_moved
+from mathboxes.checks import check_amount, check_delimiter, check_fonts, check_signed, check_size, check_style
+from mathboxes.measures import half, size_of
+
+MOST_REPEATS = 60
+
+
+def candidates(fonts, size, delimiter):
+    """The glyphs that a delimiter can be, as tuples (family, size, name)."""
+    check_delimiter_at(fonts, size, delimiter)
+    return candidates_of(fonts, size, delimiter)
+
+
+def chosen(fonts, size, delimiter, least):
+    """The glyph that a delimiter becomes for a least total, with its repeats if it extends."""
+    check_delimiter_at(fonts, size, delimiter)
+    check_amount(least, "least")
+    return chosen_of(fonts, size, delimiter, least)
+
+
+def grown(fonts, size, delimiter, least):
+    """The box of a delimiter for a least total, with its middle at the axis."""
+    check_delimiter_at(fonts, size, delimiter)
+    check_amount(least, "least")
+    return grown_box(fonts, size, delimiter, least, ())
+
+
+def totals(fonts, size, delimiter):
+    """The totals of a delimiter for all least totals, as tuples (the first one of these, total)."""
+    check_delimiter_at(fonts, size, delimiter)
+    found = []
+    least = 0
+    for total in totals_tried(fonts, size, delimiter):
+        if total >= least:
+            found.append((least, total))
+            least = total + 1
+    if not found:
+        return [(0, 0)]
+    # Here none that is tried is great enough any more.
+    beyond = total_chosen(fonts, size, delimiter, least)
+    if beyond != found[-1][1]:
+        found.append((least, beyond))
+    return found
+
+
+def fence_least(fonts, size, height, depth):
+    """The least total of the delimiters of a fence around such a greatest height and depth."""
+    check_fonts(fonts)
+    check_size(size)
+    check_signed(height, "height")
+    check_signed(depth, "depth")
+    return fence_least_of(fonts, size, height, depth)
+
+
+def root(fonts, style, delimiter, inner):
+    """The box of a root with its sign around a box."""
+    check_fonts(fonts)
+    check_style(style)
+    check_delimiter(delimiter)
+    check_box(inner)
+    return root_box(fonts, style, delimiter, inner, ())
+
+
+def check_delimiter_at(fonts, size, delimiter):
+    check_fonts(fonts)
+    check_size(size)
+    check_delimiter(delimiter)
+
+
+def candidates_of(fonts, size, delimiter):
+    """As candidates, without its checks."""
+    if delimiter is None:
+        return []
+    found = []
+    for family, name in (delimiter[:2], delimiter[2:]):
+        for face_size in range(size, -1, -1):
+            found.extend(chain_if_any(fonts, family, face_size, name))
+    return found
+
+
+def chain_if_any(fonts, family, size, name):
+    """A glyph and its next ones, as tuples (family, size, name); none if the glyph lacks."""
+    found = []
+    glyph = fonts.glyph_if_any(family, size, name)
+    while glyph is not None:
+        found.append((family, size, name))
+        name = glyph[4]
+        glyph = None if name is None else fonts.glyph_if_any(family, size, name)
+    return found
+
+
+def total_of(glyph):
+    return glyph[1] + glyph[2]
+
+
+def chosen_of(fonts, size, delimiter, least):
+    """As chosen, without its checks: a total that is reckoned may be below 0, or too great for them."""
+    best = None
+    most = -1
+    for family, face_size, name in candidates_of(fonts, size, delimiter):
+        glyph = fonts.glyph_if_any(family, face_size, name)
+        if glyph[5] is not None:
+            return (family, face_size, name, repeats_for(fonts, family, face_size, glyph[5], least))
+        total = total_of(glyph)
+        if total >= least:
+            return (family, face_size, name, None)
+        if total > most:
+            best = (family, face_size, name, None)
+            most = total
+    return best
+
+
+def repeats_for(fonts, family, size, parts, least):
+    fixed, each = parts_totals(fonts, family, size, parts)
+    if each == 0 or fixed >= least:
+        return 0
+    return min(MOST_REPEATS, (least - fixed + each - 1) // each)
+
+
+def parts_totals(fonts, family, size, parts):
+    """The total without any repeat, and how much each repeat adds to it."""
+    fixed = sum([total_of(fonts.glyph_if_any(family, size, name)) for name in parts[:3] if name is not None])
+    each = total_of(fonts.glyph_if_any(family, size, parts[3]))
+    return fixed, each if parts[1] is None else 2 * each
+
+
+def totals_tried(fonts, size, delimiter):
+    """All totals that are tried, one after another, until one is great enough."""
+    found = []
+    for family, face_size, name in candidates_of(fonts, size, delimiter):
+        glyph = fonts.glyph_if_any(family, face_size, name)
+        if glyph[5] is not None:
+            fixed, each = parts_totals(fonts, family, face_size, glyph[5])
+            # What extends is taken in any case, so nothing is tried behind it.
+            return found + [fixed + many * each for many in range(MOST_REPEATS + 1)]
+        found.append(total_of(glyph))
+    return found
+
+
+def total_chosen(fonts, size, delimiter, least):
+    """The total of what is chosen, if there are candidates."""
+    family, face_size, name, many = chosen_of(fonts, size, delimiter, least)
+    glyph = fonts.glyph_if_any(family, face_size, name)
+    if many is None:
+        return total_of(glyph)
+    fixed, each = parts_totals(fonts, family, face_size, glyph[5])
+    return fixed + many * each
+
+
+def grown_box(fonts, size, delimiter, least, path):
+    """As grown, without its checks, with marks of a path."""
+    choice = chosen_of(fonts, size, delimiter, least)
+    box = standing_box(fonts, choice, path)
+    if choice is None:
+        return box
+    return put_moved(box, 0, fonts.number_of("axis", size) - half(box.height - box.depth))
+
+
+def standing_box(fonts, choice, path):
+    """The box of what is chosen, ahead of its moving to the axis."""
+    if choice is None:
+        return Box(fonts.setting_of("empty"), 0, 0)
+    family, size, name, many = choice
+    glyph = fonts.glyph_if_any(family, size, name)
+    if many is not None:
+        return stacked_box(fonts, family, size, glyph[5], many, path)
+    return Box(glyph[0] + glyph[3], glyph[1], glyph[2], [(0, 0, ("glyph", path, family, size, name))])
+
+
+def stacked_box(fonts, family, size, parts, many, path):
+    """The box of pieces that stand on one another."""
+    names = piece_names(parts, many)
+    pieces = [fonts.glyph_if_any(family, size, name) for name in names]
+    total = sum([total_of(piece) for piece in pieces])
+    height = pieces[-1][1] if pieces else 0
+    lower = height - total
+    marks = []
+    for name, piece in zip(names, pieces):
+        marks.append((0, lower + piece[2], ("glyph", path, family, size, name)))
+        lower += total_of(piece)
+    rep = fonts.glyph_if_any(family, size, parts[3])
+    return Box(rep[0] + rep[3], height, total - height, marks)
+
+
+def piece_names(parts, many):
+    """The pieces from below: bottom, repeats, middle, repeats, top, as far as they are there."""
+    top, middle, bottom, rep = parts
+    names = [rep] * many
+    if middle is not None:
+        names = names + [middle] + names
+    if bottom is not None:
+        names = [bottom] + names
+    if top is not None:
+        names = names + [top]
+    return names
+
+
+def fence_least_of(fonts, size, height, depth):
+    """As fence_least, without its checks."""
+    axis = fonts.number_of("axis", size)
+    reach = max(height - axis, depth + axis)
+    return max(reach // 500 * fonts.setting_of("factor"), 2 * reach - fonts.setting_of("short"))
+
+
+def root_box(fonts, style, delimiter, inner, path):
+    """As root, without its checks, with marks of a path."""
+    size = size_of(style)
+    rule = fonts.number_of("rule", size)
+    clear = rule + (fonts.number_of("xheight", size) // 4 if style <= 1 else rule // 4)
+    inside = inner.height + inner.depth
+    sign = standing_box(fonts, chosen_of(fonts, size, delimiter, inside + clear + rule), path)
+    if sign.depth > inside + clear:
+        clear += half(sign.depth - (inside + clear))
+    thickness = sign.height
+    lower = inner.height + clear
+    marks = list(inner.marks)
+    if thickness > 0:
+        marks.append((0, lower, ("rule", path, inner.width, thickness)))
+    covered = Box(inner.width, lower + 2 * thickness, inner.depth, marks)
+    return put_beside([put_moved(sign, 0, lower), covered])

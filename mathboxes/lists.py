@@ -1,0 +1,209 @@
+"""Rows: what stands side by side in a formula, with its classes, its pairs and its spaces."""
+
+from mathboxes.checks import check_fonts, check_style
+from mathboxes.errors import InvalidArgument
+from mathboxes.formulas import check_formula
+from mathboxes.kinds import is_list_class
+from mathboxes.measures import size_of
+
+SUP_STYLES = (4, 5, 4, 5, 6, 7, 6, 7)
+SUB_STYLES = (5, 5, 5, 5, 7, 7, 7, 7)
+NUM_STYLES = (2, 3, 4, 5, 6, 7, 6, 7)
+DEN_STYLES = (3, 3, 5, 5, 7, 7, 7, 7)
+SCRIPT = 4
+
+# For each first class a row of signs, one for each second class in the order of CLASSES.
+CLASSES = ("ord", "op", "bin", "rel", "open", "close", "punct", "inner")
+SPACES = {
+    "ord": "01230001",
+    "op": "11-30001",
+    "bin": "22--2--2",
+    "rel": "33-03003",
+    "open": "00-00000",
+    "close": "01230001",
+    "punct": "11-11111",
+    "inner": "11231011",
+}
+SPACE_WORDS = {"1": "thin", "2": "medium", "3": "thick"}
+PAIRS_IN_SCRIPTS = (("ord", "op"), ("op", "ord"), ("op", "op"), ("close", "op"), ("inner", "op"))
+
+BEFORE_EARLY = ("bin", "op", "rel", "open", "punct")
+BEHIND_LATE = ("rel", "close", "punct")
+ITEM_CLASSES = {"operator": "op", "fraction": "inner", "fence": "inner"}
+
+
+class Place:
+    """What stands at one place of a row: an atom, a kern or a middle, in its style."""
+
+    def __init__(self, path, item, style):
+        self.path = path
+        self.item = item
+        self.style = style
+        # The class of an atom; the space ahead of it; the kern of a pair behind it.
+        self.kind = None
+        self.ahead = 0
+        self.behind = 0
+        self.is_text = False
+
+
+def sup_style(style):
+    return SUP_STYLES[style]
+
+
+def sub_style(style):
+    return SUB_STYLES[style]
+
+
+def num_style(style):
+    return NUM_STYLES[style]
+
+
+def den_style(style):
+    return DEN_STYLES[style]
+
+
+def cramped(style):
+    return style | 1
+
+
+def space(one, other, style):
+    """The word of the space between atoms of two classes, or None."""
+    if not is_list_class(one):
+        raise InvalidArgument("one")
+    if not is_list_class(other):
+        raise InvalidArgument("other")
+    check_style(style)
+    return space_between(one, other, style)
+
+
+def space_between(one, other, style):
+    """As space, without its checks."""
+    if style >= SCRIPT and (one, other) not in PAIRS_IN_SCRIPTS:
+        return None
+    return SPACE_WORDS.get(SPACES[one][CLASSES.index(other)])
+
+
+def room_between(fonts, one, other, style):
+    """How wide the space between two classes is."""
+    word = space_between(one, other, style)
+    if word is None:
+        return 0
+    return fonts.setting_of(word) * fonts.number_of("quad", size_of(style)) // 18
+
+
+def arranged(fonts, formula, style):
+    """What stands in the row of a formula, as tuples (path, class, style, space ahead, kern behind)."""
+    check_fonts(fonts)
+    check_formula(formula)
+    check_style(style)
+    return [
+        (place.path, place.kind, place.style, place.ahead, place.behind)
+        for place in places_of(fonts, formula, style, ())
+    ]
+
+
+def places_of(fonts, formula, style, path):
+    """The places of the row of a right formula, with classes and spaces, pairs being joined or kerned.
+
+    The path is the one that the paths of the formula's items begin with.
+    """
+    row = row_of(formula, style, path)
+    afters = classes_behind(row)
+    found = []
+    # What stands behind nothing, or behind a middle, is as behind an open one: early, without space.
+    before = "open"
+    at = 0
+    while at < len(row):
+        place = row[at]
+        found.append(place)
+        word = place.item[0]
+        if word == "middle":
+            place.ahead = room_between(fonts, before, "close", place.style)
+            before = "open"
+            at += 1
+        elif word == "kern":
+            at += 1
+        else:
+            at = settled(fonts, row, at, before, afters[at])
+            before = place.kind
+    return found
+
+
+def row_of(formula, style, path):
+    """The row of a formula as it is written, without style items and choices."""
+    row = []
+    gather(row, formula, style, path)
+    return row
+
+
+def gather(row, formula, style, path):
+    """Put what a formula has into a row; return the style that holds at its end."""
+    for at, item in enumerate(formula):
+        if item[0] == "style":
+            # What began in a cramped style stays cramped.
+            style = item[1] | (style & 1)
+        elif item[0] == "choice":
+            taken = style // 2 + 1
+            style = gather(row, item[taken], style, (*path, at, taken))
+        else:
+            row.append(Place((*path, at), item, style))
+    return style
+
+
+def class_told(item):
+    """The class that an atom has by itself, before what stands around it is looked at."""
+    if item[0] == "symbol" or item[0] == "list":
+        return item[1]
+    return ITEM_CLASSES.get(item[0], "ord")
+
+
+def classes_behind(row):
+    """For each place the class of the next atom; a middle, and the end, are as a close one."""
+    found = []
+    after = "close"
+    for place in reversed(row):
+        found.append(after)
+        if place.item[0] == "middle":
+            after = "close"
+        elif place.item[0] != "kern":
+            after = class_told(place.item)
+    return found[::-1]
+
+
+def settled(fonts, row, at, before, after):
+    """Give an atom its class, its space and its pair; return the place that comes next."""
+    place = row[at]
+    told = class_told(place.item)
+    is_early = told == "bin" and before in BEFORE_EARLY
+    is_late = told == "bin" and not is_early and after in BEHIND_LATE
+    place.kind = "ord" if is_early or is_late else told
+    place.ahead = room_between(fonts, before, place.kind, place.style)
+    if place.kind == "ord" and not is_late:
+        return paired(fonts, row, at)
+    return at + 1
+
+
+def paired(fonts, row, at):
+    """Join an ord symbol with what stands behind it, or kern it; return the place that comes next."""
+    place = row[at]
+    later = at + 1
+    while later < len(row) and are_side_by_side(place, row[later]):
+        family = place.item[2]
+        other = row[later].item
+        deed = fonts.pair_if_any(family, size_of(place.style), place.item[3], other[3])
+        if deed is None or deed[0] == "kern":
+            place.is_text = True
+            place.behind = 0 if deed is None else deed[1]
+            return later
+        # The one that comes of a join is looked at again, with the next one behind it.
+        place.item = ("symbol", "ord", family, deed[1], other[4], other[5])
+        later += 1
+    return later
+
+
+def are_side_by_side(place, other):
+    """Whether two places are symbols whose pair is looked at: the first one is a text symbol then."""
+    one, two = place.item, other.item
+    if one[0] != "symbol" or one[4] is not None or one[5] is not None or two[0] != "symbol":
+        return False
+    return one[2] == two[2] and size_of(place.style) == size_of(other.style)
