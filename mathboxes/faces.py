@@ -1,8 +1,7 @@
 """What can stand in fonts: the checks of families, faces, glyphs and numbers."""
 
 from mathboxes.errors import InvalidArgument, InvalidFont
-from mathboxes.kinds import LIMIT, MOST_FAMILIES, SIZES
-from mathboxes.kinds import is_amount, is_between, is_name, is_row, is_signed, is_size, is_word
+from mathboxes.kinds import MOST_FAMILIES, SIZES, is_amount, is_name, is_row, is_signed, is_size, is_word
 
 NUMBER_WORDS = (
     "xheight", "quad", "up1", "up2", "up3", "down1", "down2", "sup1", "sup2", "sup3", "sub1", "sub2",
@@ -49,21 +48,19 @@ def is_face_outside(face):
 
 
 def check_glyphs(glyphs, at):
-    names = sorted(glyphs)
-    for name in names:
-        if not is_glyph(glyphs[name], glyphs):
-            raise InvalidFont("glyphs", (*at, name))
-    for name in names:
-        if comes_back(glyphs, name):
-            raise InvalidFont("glyphs", (*at, name))
+    wrong = [name for name in glyphs if not is_glyph(glyphs[name], glyphs)]
+    if not wrong:
+        wrong = names_that_come_back(glyphs)
+    if wrong:
+        raise InvalidFont("glyphs", (*at, min(wrong)))
 
 
 def is_glyph(value, glyphs):
-    if not is_row(value, 6):
+    if not isinstance(value, tuple) or len(value) != 6:
         return False
-    if not all([is_amount(number) for number in value[:4]]):
+    width, height, depth, slant, later, parts = value
+    if not (is_amount(width) and is_amount(height) and is_amount(depth) and is_amount(slant)):
         return False
-    later, parts = value[4], value[5]
     if later is None:
         return parts is None or is_parts(parts, glyphs)
     return parts is None and is_glyph_name(later, glyphs)
@@ -82,16 +79,20 @@ def is_glyph_name(value, glyphs):
     return is_word(value, glyphs)
 
 
-def comes_back(glyphs, name):
-    """Whether the next ones of a glyph, one after another, meet one of them again."""
-    seen = {}
-    at = name
-    while at is not None:
-        if at in seen:
-            return True
-        seen[at] = True
-        at = glyphs[at][4]
-    return False
+def names_that_come_back(glyphs):
+    """The names of the glyphs whose next ones, one after another, meet one of them again."""
+    linked = [name for name in glyphs if glyphs[name][4] is not None]
+    ending = {}
+    for name in linked:
+        met = {}
+        at = name
+        # What is known to end needs no second look: so a long chain is gone through once.
+        while at is not None and at not in ending and at not in met:
+            met[at] = True
+            at = glyphs[at][4]
+        if at is None or at in ending:
+            ending.update(met)
+    return [name for name in linked if name not in ending]
 
 
 def is_pair(pair, deed, glyphs):
@@ -125,8 +126,7 @@ def check_table(table, words, part, at):
 
 def is_number_for(word, value):
     """Whether a value can be the number of a word."""
-    most = MOST_FACTOR if word == "factor" else LIMIT
-    return is_between(value, 0, most)
+    return is_amount(value) and (word != "factor" or value <= MOST_FACTOR)
 
 
 def check_place(word, size):

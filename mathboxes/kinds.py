@@ -1,6 +1,11 @@
-"""The plain kinds of values: each function tells whether any value at all is of its kind."""
+"""The plain kinds of values: each function tells whether any value at all is of its kind.
+
+These run very often, so those that are asked most write their tests out instead of calling one another.
+Python counts a bool among the integers; the document does not: hence the tests for True and False.
+"""
 
 LIMIT = 10 ** 60
+LEAST = -(10 ** 60)
 MOST_FAMILIES = 4
 SIZES = 3
 STYLES = 8
@@ -13,22 +18,21 @@ MOST_SIGNS = 36
 
 
 def is_integer(value):
-    # Python counts a bool among the integers; the document does not.
-    return isinstance(value, int) and not isinstance(value, bool)
+    return isinstance(value, int) and value is not True and value is not False
 
 
 def is_between(value, least, greatest):
-    return is_integer(value) and least <= value <= greatest
+    return isinstance(value, int) and value is not True and value is not False and least <= value <= greatest
 
 
 def is_amount(value):
     """An integer from 0 to 10 ** 60."""
-    return is_between(value, 0, LIMIT)
+    return isinstance(value, int) and value is not True and value is not False and 0 <= value <= LIMIT
 
 
 def is_signed(value):
     """An integer from -10 ** 60 to 10 ** 60."""
-    return is_between(value, -LIMIT, LIMIT)
+    return isinstance(value, int) and value is not True and value is not False and LEAST <= value <= LIMIT
 
 
 def is_word(value, words):
@@ -37,9 +41,10 @@ def is_word(value, words):
 
 
 def is_name(value):
-    if not isinstance(value, str) or not 1 <= len(value) <= MOST_LETTERS:
-        return False
-    return all(["a" <= sign <= "z" for sign in value])
+    return (
+        isinstance(value, str) and len(value) <= MOST_LETTERS
+        and value.isascii() and value.isalpha() and value.islower()
+    )
 
 
 def is_row(value, many):
@@ -53,7 +58,7 @@ def is_sequence(value):
 
 def is_family(value):
     """What a formula or a mark may tell as a family; fonts may have fewer."""
-    return is_between(value, 0, MOST_FAMILIES - 1)
+    return isinstance(value, int) and value is not True and value is not False and 0 <= value < MOST_FAMILIES
 
 
 def is_size(value):
@@ -73,17 +78,14 @@ def is_path(value):
 def is_delimiter(value):
     if value is None:
         return True
-    if not is_row(value, 4):
+    if not isinstance(value, tuple) or len(value) != 4:
         return False
-    return is_family(value[0]) and is_name(value[1]) and is_family(value[2]) and is_name(value[3])
-
-
-def is_symbol_class(value):
-    return is_word(value, SYMBOL_CLASSES)
+    family, name, large_family, large_name = value
+    return is_family(family) and is_name(name) and is_family(large_family) and is_name(large_name)
 
 
 def is_list_class(value):
-    return is_word(value, LIST_CLASSES)
+    return isinstance(value, str) and value in LIST_CLASSES
 
 
 def is_limits(value):
@@ -92,10 +94,6 @@ def is_limits(value):
 
 def is_thickness(value):
     return value is None or is_amount(value)
-
-
-def is_unit(value):
-    return is_word(value, ("units", "mu"))
 
 
 def is_told_style(value):

@@ -39,6 +39,7 @@ class Place:
         self.path = path
         self.item = item
         self.style = style
+        self.size = size_of(style)
         # The class of an atom; the space ahead of it; the kern of a pair behind it.
         self.kind = None
         self.ahead = 0
@@ -190,7 +191,7 @@ def paired(fonts, row, at):
     while later < len(row) and are_side_by_side(place, row[later]):
         family = place.item[2]
         other = row[later].item
-        deed = fonts.pair_if_any(family, size_of(place.style), place.item[3], other[3])
+        deed = fonts.pair_if_any(family, place.size, place.item[3], other[3])
         if deed is None or deed[0] == "kern":
             place.is_text = True
             place.behind = 0 if deed is None else deed[1]
@@ -206,4 +207,4 @@ def are_side_by_side(place, other):
     one, two = place.item, other.item
     if one[0] != "symbol" or one[4] is not None or one[5] is not None or two[0] != "symbol":
         return False
-    return one[2] == two[2] and size_of(place.style) == size_of(other.style)
+    return one[2] == two[2] and place.size == other.size

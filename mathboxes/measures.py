@@ -1,5 +1,7 @@
 """How numbers are halved, and which size a style has."""
 
+SIZES_OF_STYLES = (0, 0, 0, 0, 1, 1, 2, 2)
+
 
 def half(number):
     """Half of a number, rounded up."""
@@ -8,4 +10,4 @@ def half(number):
 
 def size_of(style):
     """The size of a style: 0 for display and text, 1 for script, 2 for small."""
-    return max(0, style // 2 - 1)
+    return SIZES_OF_STYLES[style]

@@ -121,6 +121,22 @@ class Glyphs(Wrong):
         glyphs = {"a": plain("c"), "b": plain("d"), "c": plain(), "d": plain("e"), "e": plain("d")}
         self.wrong_face("glyphs", ("b",), (glyphs, {1: 2}, False))
 
+    def test_several_circles_and_ways_into_them(self):
+        glyphs = {
+            "x": plain("y"), "y": plain("x"), "f": plain("e"), "e": plain("d"), "d": plain("e"), "c": plain("d"),
+            "b": plain("a"), "a": plain(),
+        }
+        self.wrong_face("glyphs", ("c",), (glyphs, {}, False))
+        del glyphs["c"]
+        self.wrong_face("glyphs", ("d",), (glyphs, {}, False))
+        self.wrong_face("glyphs", ("x",), ({"x": plain("y"), "y": plain("x"), "b": plain("a"), "a": plain()}, {}, False))
+        names = sorted(one + other for one in "abcdefghij" for other in "abcdefghijklmnopqrst")
+        circle = {name: plain(later) for name, later in zip(names, names[1:] + names[150:151])}
+        self.wrong_face("glyphs", ("aa",), (circle, {}, False))
+        circle = {name: plain(later) for name, later in zip(names, [None] + names[:-1])}
+        circle["ab"] = plain("ad")
+        self.wrong_face("glyphs", ("ab",), (circle, {}, False))
+
     def test_wrong_by_itself_comes_first(self):
         self.wrong_face("glyphs", ("z",), ({"a": plain("a"), "z": None}, {1: 2}, False))
 

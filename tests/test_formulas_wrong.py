@@ -164,6 +164,8 @@ class Parts(Formula):
             for name in ("a", "z", "abcdefgh"):
                 self.right_item(put(PLAIN[word], at, name))
             self.wrong_part(word, at, ["abcdefghi", "A", "a1", "a_", "a`", "a{", "a\n", 0, None, ("a",)] + odd_values())
+            # Letters of other alphabets, and small letters without a great one.
+            self.wrong_part(word, at, ["\u00e9", "a\u00e9", "\u00df", "\u0131", "\u03b1", "\u00aa", "\uff41", "aB", "a1b", "1"])
 
     def test_delimiters(self):
         rows = [("root", 1), ("fence", 1), ("fence", 3), ("middle", 1), ("fraction", 4), ("fraction", 5)]
@@ -332,6 +334,17 @@ class Depths(Formula):
         self.wrong((0,), [None] + deep)
         self.wrong((0, 2) * 6, deep + [None])
 
+    def test_the_order_of_all_depths(self):
+        """Of several wrong things the first one in order is told, however deep it and the others stand."""
+        deepest = nest(6, [KERN, BAD])
+        self.wrong((0, 2) * 5 + (1,), deepest + [BAD])
+        self.wrong((0,), [BAD] + deepest)
+        self.wrong((0, 4, 1), [symbol(sup=[KERN, ("middle", None)], sub=0), BAD])
+        self.wrong((0, 5), [symbol(sup=[KERN], sub=0), symbol(sup=0)])
+        self.wrong((1, 3), [KERN, ("list", "ord", [symbol(sup=[symbol(sub=[])])], (), 0), ("kern", 1, 1)])
+        self.wrong((0, 2, 0, 2, 0), [("fence", None, [("fence", None, [BAD], None, None, None), BAD], None, None, None)])
+        self.wrong((0, 2) * 6, nest(7, [KERN] * 300) + [BAD])
+
     def test_a_formula_in_itself(self):
         formula = [KERN]
         formula.append(("over", formula, None, None))
@@ -355,6 +368,8 @@ class Counts(Formula):
     def test_paths_come_first(self):
         self.wrong((300,), [KERN] * 300 + [None] + [KERN] * 300)
         self.wrong((200, 4), [KERN] * 200 + [symbol(sup=0)])
+        self.wrong((0, 4, 150), [symbol(sup=[KERN] * 150 + [BAD])] + [KERN] * 150)
+        self.wrong((150, 4, 100), [KERN] * 150 + [symbol(sup=[KERN] * 100 + [("middle", None)])])
 
 
 class All(Formula):

@@ -14,7 +14,7 @@ BUILTINS = set(
     "ArithmeticError OverflowError RuntimeError NotImplementedError AttributeError StopIteration NotImplemented".split()
 )
 METHODS = set(
-    "append clear copy count endswith extend find get index insert isalnum isalpha isdigit islower isspace isupper items "
+    "append clear copy count endswith extend find get index insert isalnum isalpha isdigit islower isspace isupper items isascii "
     "join keys ljust lower lstrip partition pop remove replace reverse rfind rjust rpartition rsplit rstrip setdefault "
     "split splitlines startswith strip update upper values zfill bit_length".split()
 )
