@@ -1,26 +1,27 @@
 """Bars, boxes on the axis, and accents."""
 
-from mathboxes.boxes import Box, check_box_argument, put_moved
+from mathboxes.boxes import check_box_argument
 from mathboxes.checks import check_fonts, check_signed, check_style
 from mathboxes.measures import half, size_of
+from mathboxes.parts import Part, boxed, lifted
 
 
 def overlined(fonts, style, inner):
     """A box with a bar above it."""
     check_bar(fonts, style, inner)
-    return overlined_box(fonts, style, inner, ())
+    return boxed(overlined_part(fonts, style, inner, ()))
 
 
 def underlined(fonts, style, inner):
     """A box with a bar below it."""
     check_bar(fonts, style, inner)
-    return underlined_box(fonts, style, inner, ())
+    return boxed(underlined_part(fonts, style, inner, ()))
 
 
 def centered(fonts, style, inner):
     """A box with its middle on the axis."""
     check_bar(fonts, style, inner)
-    return centered_box(fonts, style, inner)
+    return boxed(centered_part(fonts, style, inner))
 
 
 def accent_steps(fonts, family, size, name):
@@ -49,7 +50,7 @@ def accented(fonts, style, family, name, inner, old_inner=None, skew=0):
         check_box_argument(old_inner, "old_inner")
     check_signed(skew, "skew")
     old = inner if old_inner is None else old_inner
-    return accented_box(fonts, style, family, name, inner, old, skew, ())
+    return boxed(accented_part(fonts, style, family, name, inner, old, skew, ()))
 
 
 def check_bar(fonts, style, inner):
@@ -58,42 +59,42 @@ def check_bar(fonts, style, inner):
     check_box_argument(inner, "inner")
 
 
-def overlined_box(fonts, style, inner, path):
+def overlined_part(fonts, style, inner, path):
     """As overlined, without its checks, with marks of a path."""
     thickness = fonts.number_of("rule", size_of(style))
     bar = (0, inner.height + 3 * thickness, ("rule", path, inner.width, thickness))
-    return Box(inner.width, inner.height + 5 * thickness, inner.depth, inner.marks + [bar])
+    return Part(inner.width, inner.height + 5 * thickness, inner.depth, [(0, 0, inner), bar])
 
 
-def underlined_box(fonts, style, inner, path):
+def underlined_part(fonts, style, inner, path):
     """As underlined, without its checks, with marks of a path."""
     thickness = fonts.number_of("rule", size_of(style))
     bar = (0, -inner.depth - 4 * thickness, ("rule", path, inner.width, thickness))
-    return Box(inner.width, inner.height, inner.depth + 5 * thickness, inner.marks + [bar])
+    return Part(inner.width, inner.height, inner.depth + 5 * thickness, [(0, 0, inner), bar])
 
 
-def centered_box(fonts, style, inner):
+def centered_part(fonts, style, inner):
     """As centered, without its checks."""
     height = fonts.number_of("axis", size_of(style)) + half(inner.height + inner.depth)
-    return put_moved(inner, 0, height - inner.height)
+    return lifted(inner, height - inner.height)
 
 
-def accented_box(fonts, style, family, name, inner, old, skew, path):
+def accented_part(fonts, style, family, name, inner, old, skew, path):
     """As accented, without its checks, with a mark of a path; the accent must be there."""
     size = size_of(style)
     taken = accent_taken(fonts, family, size, name, old.width)
-    glyph = fonts.glyph_if_any(family, size, taken)
-    inside = min(old.height, fonts.number_of("xheight", size)) + inner.height - old.height
-    baseline = inner.height - inside + glyph[2]
-    left = skew + half(old.width - (glyph[0] + glyph[3]))
-    marks = inner.marks + [(left, baseline, ("glyph", path, family, size, taken))]
-    return Box(inner.width, max(inner.height, baseline + glyph[1]), inner.depth, marks)
+    width, height, depth, slant = fonts.glyph_if_any(family, size, taken)[:4]
+    # How far the lower end of the accent stands above the baseline: what OLD has above xheight.
+    baseline = fonts.greatest([0, old.height - fonts.number_of("xheight", size)]) + depth
+    left = skew + half(old.width - (width + slant))
+    marks = [(0, 0, inner), (left, baseline, ("glyph", path, family, size, taken))]
+    return Part(inner.width, fonts.greatest([inner.height, baseline + height]), inner.depth, marks)
 
 
 def accent_taken(fonts, family, size, name, width):
     """The name of the accent of a chain that is taken for a width."""
     while True:
         later = fonts.glyph_if_any(family, size, name)[4]
-        if later is None or fonts.glyph_if_any(family, size, later)[0] > width:
+        if later is None or not fonts.reaches(width, fonts.glyph_if_any(family, size, later)[0]):
             return name
         name = later

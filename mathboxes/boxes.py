@@ -75,11 +75,6 @@ def beside(boxes):
         raise InvalidArgument("boxes")
     for box in boxes:
         check_box(box)
-    return put_beside(boxes)
-
-
-def put_beside(boxes):
-    """As beside, without its checks: boxes that were made here may be too great for them."""
     width = 0
     marks = []
     for box in boxes:
@@ -99,11 +94,6 @@ def moved(box, dx, dy):
     check_box(box)
     check_signed(dx, "dx")
     check_signed(dy, "dy")
-    return put_moved(box, dx, dy)
-
-
-def put_moved(box, dx, dy):
-    """As moved, without its checks."""
     return Box(box.width + dx, box.height + dy, box.depth - dy, marks_moved(box, dx, dy))
 
 

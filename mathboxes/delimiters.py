@@ -1,8 +1,9 @@
 """Delimiters that grow, and roots, whose sign is one of them."""
 
-from mathboxes.boxes import Box, check_box, put_beside, put_moved
+from mathboxes.boxes import check_box
 from mathboxes.checks import check_amount, check_delimiter, check_fonts, check_signed, check_size, check_style
 from mathboxes.measures import half, size_of
+from mathboxes.parts import Part, boxed, lifted, side_by_side
 
 MOST_REPEATS = 60
 
@@ -10,7 +11,11 @@ MOST_REPEATS = 60
 def candidates(fonts, size, delimiter):
     """The glyphs that a delimiter can be, as tuples (family, size, name)."""
     check_delimiter_at(fonts, size, delimiter)
-    return candidates_of(fonts, size, delimiter)
+    return [
+        (family, face_size, name)
+        for family, face_size, first in faces_of(size, delimiter)
+        for name, _ in chain_if_any(fonts, family, face_size, first)
+    ]
 
 
 def chosen(fonts, size, delimiter, least):
@@ -24,7 +29,7 @@ def grown(fonts, size, delimiter, least):
     """The box of a delimiter for a least total, with its middle at the axis."""
     check_delimiter_at(fonts, size, delimiter)
     check_amount(least, "least")
-    return grown_box(fonts, size, delimiter, least, ())
+    return boxed(grown_part(fonts, size, delimiter, least, ()))
 
 
 def totals(fonts, size, delimiter):
@@ -60,7 +65,7 @@ def root(fonts, style, delimiter, inner):
     check_style(style)
     check_delimiter(delimiter)
     check_box(inner)
-    return root_box(fonts, style, delimiter, inner, ())
+    return boxed(root_part(fonts, style, delimiter, inner, ()))
 
 
 def check_delimiter_at(fonts, size, delimiter):
@@ -69,23 +74,23 @@ def check_delimiter_at(fonts, size, delimiter):
     check_delimiter(delimiter)
 
 
-def candidates_of(fonts, size, delimiter):
-    """As candidates, without its checks."""
+def faces_of(size, delimiter):
+    """The faces in which the glyphs of a delimiter begin, as tuples (family, size, name), in order."""
     if delimiter is None:
         return []
-    found = []
-    for family, name in (delimiter[:2], delimiter[2:]):
-        for face_size in range(size, -1, -1):
-            found.extend(chain_if_any(fonts, family, face_size, name))
-    return found
+    return [
+        (family, face_size, name)
+        for family, name in (delimiter[:2], delimiter[2:])
+        for face_size in range(size, -1, -1)
+    ]
 
 
 def chain_if_any(fonts, family, size, name):
-    """A glyph and its next ones, as tuples (family, size, name); none if the glyph lacks."""
+    """A glyph and its next ones, as tuples (name, glyph); none if the glyph lacks."""
     found = []
     glyph = fonts.glyph_if_any(family, size, name)
     while glyph is not None:
-        found.append((family, size, name))
+        found.append((name, glyph))
         name = glyph[4]
         glyph = None if name is None else fonts.glyph_if_any(family, size, name)
     return found
@@ -99,24 +104,18 @@ def chosen_of(fonts, size, delimiter, least):
     """As chosen, without its checks: a total that is reckoned may be below 0, or too great for them."""
     best = None
     most = -1
-    for family, face_size, name in candidates_of(fonts, size, delimiter):
-        glyph = fonts.glyph_if_any(family, face_size, name)
-        if glyph[5] is not None:
-            return (family, face_size, name, repeats_for(fonts, family, face_size, glyph[5], least))
-        total = total_of(glyph)
-        if total >= least:
-            return (family, face_size, name, None)
-        if total > most:
-            best = (family, face_size, name, None)
-            most = total
+    for family, face_size, first in faces_of(size, delimiter):
+        for name, glyph in chain_if_any(fonts, family, face_size, first):
+            if glyph[5] is not None:
+                fixed, each = parts_totals(fonts, family, face_size, glyph[5])
+                return (family, face_size, name, fonts.repeats(each, least - fixed, MOST_REPEATS))
+            total = total_of(glyph)
+            if fonts.reaches(total, least):
+                return (family, face_size, name, None)
+            if total > most:
+                best = (family, face_size, name, None)
+                most = total
     return best
-
-
-def repeats_for(fonts, family, size, parts, least):
-    fixed, each = parts_totals(fonts, family, size, parts)
-    if each == 0 or fixed >= least:
-        return 0
-    return min(MOST_REPEATS, (least - fixed + each - 1) // each)
 
 
 def parts_totals(fonts, family, size, parts):
@@ -129,13 +128,13 @@ def parts_totals(fonts, family, size, parts):
 def totals_tried(fonts, size, delimiter):
     """All totals that are tried, one after another, until one is great enough."""
     found = []
-    for family, face_size, name in candidates_of(fonts, size, delimiter):
-        glyph = fonts.glyph_if_any(family, face_size, name)
-        if glyph[5] is not None:
-            fixed, each = parts_totals(fonts, family, face_size, glyph[5])
-            # What extends is taken in any case, so nothing is tried behind it.
-            return found + [fixed + many * each for many in range(MOST_REPEATS + 1)]
-        found.append(total_of(glyph))
+    for family, face_size, first in faces_of(size, delimiter):
+        for _, glyph in chain_if_any(fonts, family, face_size, first):
+            if glyph[5] is not None:
+                fixed, each = parts_totals(fonts, family, face_size, glyph[5])
+                # What extends is taken in any case, so nothing is tried behind it.
+                return found + [fixed + many * each for many in range(MOST_REPEATS + 1)]
+            found.append(total_of(glyph))
     return found
 
 
@@ -149,27 +148,27 @@ def total_chosen(fonts, size, delimiter, least):
     return fixed + many * each
 
 
-def grown_box(fonts, size, delimiter, least, path):
+def grown_part(fonts, size, delimiter, least, path):
     """As grown, without its checks, with marks of a path."""
     choice = chosen_of(fonts, size, delimiter, least)
-    box = standing_box(fonts, choice, path)
+    part = standing_part(fonts, choice, path)
     if choice is None:
-        return box
-    return put_moved(box, 0, fonts.number_of("axis", size) - half(box.height - box.depth))
+        return part
+    return lifted(part, fonts.number_of("axis", size) - half(part.height - part.depth))
 
 
-def standing_box(fonts, choice, path):
+def standing_part(fonts, choice, path):
     """The box of what is chosen, ahead of its moving to the axis."""
     if choice is None:
-        return Box(fonts.setting_of("empty"), 0, 0)
+        return Part(fonts.setting_of("empty"), 0, 0, [])
     family, size, name, many = choice
-    glyph = fonts.glyph_if_any(family, size, name)
+    width, height, depth, slant, _, parts = fonts.glyph_if_any(family, size, name)
     if many is not None:
-        return stacked_box(fonts, family, size, glyph[5], many, path)
-    return Box(glyph[0] + glyph[3], glyph[1], glyph[2], [(0, 0, ("glyph", path, family, size, name))])
+        return stacked_part(fonts, family, size, parts, many, path)
+    return Part(width + slant, height, depth, [(0, 0, ("glyph", path, family, size, name))])
 
 
-def stacked_box(fonts, family, size, parts, many, path):
+def stacked_part(fonts, family, size, parts, many, path):
     """The box of pieces that stand on one another."""
     names = piece_names(parts, many)
     pieces = [fonts.glyph_if_any(family, size, name) for name in names]
@@ -181,7 +180,7 @@ def stacked_box(fonts, family, size, parts, many, path):
         marks.append((0, lower + piece[2], ("glyph", path, family, size, name)))
         lower += total_of(piece)
     rep = fonts.glyph_if_any(family, size, parts[3])
-    return Box(rep[0] + rep[3], height, total - height, marks)
+    return Part(rep[0] + rep[3], height, total - height, marks)
 
 
 def piece_names(parts, many):
@@ -200,23 +199,23 @@ def piece_names(parts, many):
 def fence_least_of(fonts, size, height, depth):
     """As fence_least, without its checks."""
     axis = fonts.number_of("axis", size)
-    reach = max(height - axis, depth + axis)
-    return max(reach // 500 * fonts.setting_of("factor"), 2 * reach - fonts.setting_of("short"))
+    reach = fonts.greatest([height - axis, depth + axis])
+    return fonts.greatest([reach // 500 * fonts.setting_of("factor"), 2 * reach - fonts.setting_of("short")])
 
 
-def root_box(fonts, style, delimiter, inner, path):
+def root_part(fonts, style, delimiter, inner, path):
     """As root, without its checks, with marks of a path."""
     size = size_of(style)
     rule = fonts.number_of("rule", size)
     clear = rule + (fonts.number_of("xheight", size) // 4 if style <= 1 else rule // 4)
     inside = inner.height + inner.depth
-    sign = standing_box(fonts, chosen_of(fonts, size, delimiter, inside + clear + rule), path)
-    if sign.depth > inside + clear:
-        clear += half(sign.depth - (inside + clear))
+    sign = standing_part(fonts, chosen_of(fonts, size, delimiter, inside + clear + rule), path)
+    # A sign that is deeper than what it is to enclose stands in the middle of it.
+    clear += fonts.greatest([0, half(sign.depth - (inside + clear))])
     thickness = sign.height
     lower = inner.height + clear
-    marks = list(inner.marks)
+    marks = [(0, 0, inner)]
     if thickness > 0:
         marks.append((0, lower, ("rule", path, inner.width, thickness)))
-    covered = Box(inner.width, lower + 2 * thickness, inner.depth, marks)
-    return put_beside([put_moved(sign, 0, lower), covered])
+    covered = Part(inner.width, lower + 2 * thickness, inner.depth, marks)
+    return side_by_side(fonts, [lifted(sign, lower), covered])

@@ -50,7 +50,7 @@ class Fonts:
             later = self.glyph(family, size, later)[4]
         return names
 
-    # The next four serve the package itself: they take what was checked before.
+    # What stands from here to number_at serves the package itself: it takes what was checked before.
 
     def glyph_if_any(self, family, size, name):
         """A glyph, or None if the family is not there or its face has no such glyph."""
@@ -64,11 +64,34 @@ class Fonts:
             return None
         return self._families[family][size][1].get((first, second))
 
+    def is_spaced(self, family, size):
+        """Whether a face is spaced; the family must be there."""
+        return self._families[family][size][2]
+
+    def skew_of(self, family, size, name):
+        """The kern of the pair of a glyph and of the skew name, or 0; the family must be there."""
+        deed = self._families[family][size][1].get((name, self._skew))
+        return deed[1] if deed is not None and deed[0] == "kern" else 0
+
     def number_of(self, word, size):
         return self._numbers[size][word]
 
     def setting_of(self, word):
         return self._settings[word]
+
+    # All that the sizes of boxes decide is decided by the next three, so that it can be watched from elsewhere.
+
+    def greatest(self, numbers):
+        return max(numbers)
+
+    def reaches(self, number, bound):
+        return number >= bound
+
+    def repeats(self, each, bound, most):
+        """The least number of repeats with which all together reach a bound, but not more than the most."""
+        if bound <= 0 or each == 0:
+            return 0
+        return min(most, (bound + each - 1) // each)
 
     def number_at(self, word, size):
         check_place(word, size)

@@ -12,19 +12,18 @@ NUM_STYLES = (2, 3, 4, 5, 6, 7, 6, 7)
 DEN_STYLES = (3, 3, 5, 5, 7, 7, 7, 7)
 SCRIPT = 4
 
-# For each first class a row of signs, one for each second class in the order of CLASSES.
-CLASSES = ("ord", "op", "bin", "rel", "open", "close", "punct", "inner")
+# The words of the spaces between two classes; where none stands here, there is none.
 SPACES = {
-    "ord": "01230001",
-    "op": "11-30001",
-    "bin": "22--2--2",
-    "rel": "33-03003",
-    "open": "00-00000",
-    "close": "01230001",
-    "punct": "11-11111",
-    "inner": "11231011",
+    ("ord", "op"): "thin", ("ord", "bin"): "medium", ("ord", "rel"): "thick", ("ord", "inner"): "thin",
+    ("op", "ord"): "thin", ("op", "op"): "thin", ("op", "rel"): "thick", ("op", "inner"): "thin",
+    ("bin", "ord"): "medium", ("bin", "op"): "medium", ("bin", "open"): "medium", ("bin", "inner"): "medium",
+    ("rel", "ord"): "thick", ("rel", "op"): "thick", ("rel", "open"): "thick", ("rel", "inner"): "thick",
+    ("close", "op"): "thin", ("close", "bin"): "medium", ("close", "rel"): "thick", ("close", "inner"): "thin",
+    ("punct", "ord"): "thin", ("punct", "op"): "thin", ("punct", "rel"): "thin", ("punct", "open"): "thin",
+    ("punct", "close"): "thin", ("punct", "punct"): "thin", ("punct", "inner"): "thin",
+    ("inner", "ord"): "thin", ("inner", "op"): "thin", ("inner", "bin"): "medium", ("inner", "rel"): "thick",
+    ("inner", "open"): "thin", ("inner", "punct"): "thin", ("inner", "inner"): "thin",
 }
-SPACE_WORDS = {"1": "thin", "2": "medium", "3": "thick"}
 PAIRS_IN_SCRIPTS = (("ord", "op"), ("op", "ord"), ("op", "op"), ("close", "op"), ("inner", "op"))
 
 BEFORE_EARLY = ("bin", "op", "rel", "open", "punct")
@@ -37,6 +36,8 @@ class Place:
 
     def __init__(self, path, item, style):
         self.path = path
+        # With which path those of its scripts begin: of symbols that were joined that of the last one.
+        self.scripts_path = path
         self.item = item
         self.style = style
         self.size = size_of(style)
@@ -81,7 +82,7 @@ def space_between(one, other, style):
     """As space, without its checks."""
     if style >= SCRIPT and (one, other) not in PAIRS_IN_SCRIPTS:
         return None
-    return SPACE_WORDS.get(SPACES[one][CLASSES.index(other)])
+    return SPACES.get((one, other))
 
 
 def room_between(fonts, one, other, style):
@@ -109,7 +110,6 @@ def places_of(fonts, formula, style, path):
     The path is the one that the paths of the formula's items begin with.
     """
     row = row_of(formula, style, path)
-    afters = classes_behind(row)
     found = []
     # What stands behind nothing, or behind a middle, is as behind an open one: early, without space.
     before = "open"
@@ -125,9 +125,19 @@ def places_of(fonts, formula, style, path):
         elif word == "kern":
             at += 1
         else:
-            at = settled(fonts, row, at, before, afters[at])
+            at = settled(fonts, row, at, before)
             before = place.kind
     return found
+
+
+def class_at_end(places):
+    """The class by which a space behind a row goes: that of its last atom, or as behind nothing or a middle."""
+    for place in reversed(places):
+        if place.kind is not None:
+            return place.kind
+        if place.item[0] == "middle":
+            return "open"
+    return "open"
 
 
 def row_of(formula, style, path):
@@ -158,28 +168,30 @@ def class_told(item):
     return ITEM_CLASSES.get(item[0], "ord")
 
 
-def classes_behind(row):
-    """For each place the class of the next atom; a middle, and the end, are as a close one."""
-    found = []
-    after = "close"
-    for place in reversed(row):
-        found.append(after)
+def class_behind(row, at):
+    """The class of the next atom behind a place; a middle, and the end, are as a close one."""
+    for place in row[at + 1:]:
         if place.item[0] == "middle":
-            after = "close"
-        elif place.item[0] != "kern":
-            after = class_told(place.item)
-    return found[::-1]
+            return "close"
+        if place.item[0] != "kern":
+            return class_told(place.item)
+    return "close"
 
 
-def settled(fonts, row, at, before, after):
+def settled(fonts, row, at, before):
     """Give an atom its class, its space and its pair; return the place that comes next."""
     place = row[at]
-    told = class_told(place.item)
-    is_early = told == "bin" and before in BEFORE_EARLY
-    is_late = told == "bin" and not is_early and after in BEHIND_LATE
-    place.kind = "ord" if is_early or is_late else told
-    place.ahead = room_between(fonts, before, place.kind, place.style)
-    if place.kind == "ord" and not is_late:
+    kind = class_told(place.item)
+    is_late = False
+    if kind == "bin":
+        if before in BEFORE_EARLY:
+            kind = "ord"
+        elif class_behind(row, at) in BEHIND_LATE:
+            kind = "ord"
+            is_late = True
+    place.kind = kind
+    place.ahead = room_between(fonts, before, kind, place.style)
+    if kind == "ord" and not is_late:
         return paired(fonts, row, at)
     return at + 1
 
@@ -198,6 +210,7 @@ def paired(fonts, row, at):
             return later
         # The one that comes of a join is looked at again, with the next one behind it.
         place.item = ("symbol", "ord", family, deed[1], other[4], other[5])
+        place.scripts_path = row[later].path
         later += 1
     return later
 

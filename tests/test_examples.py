@@ -5,7 +5,9 @@ import unittest
 
 from mathboxes.accents import accent_steps, accented, centered, overlined
 from mathboxes.boxes import Box
+from mathboxes.operators import limit_rooms, limit_shifts, limited, operator_symbol
 from mathboxes.scripts import rooms, ruling, shifts
+from mathboxes.tables import table_grid
 from tests.samples import fonts_with
 
 FONTS = '''
@@ -37,9 +39,9 @@ FORMULAS = '''
     (2, [((0,), 0, 'x'), ((0, 4, 0), 0, 'b'), ((1,), 1, 'p'), ((1,), 2, 'q')])
 '''
 
-# What point 35 tells of arranged, with the fonts that it makes.
-LISTS = '''
+LAYOUT = '''
     >>> from mathboxes.fonts import Fonts
+    >>> from mathboxes.layout import layout
     >>> from mathboxes.lists import arranged
     >>> words = "xheight quad up1 up2 up3 down1 down2 sup1 sup2 sup3 sub1 sub2 supdrop subdrop delim1 delim2 axis rule".split()
     >>> words = words + "gap1 gap2 gap3 gap4 gap5".split()
@@ -48,6 +50,9 @@ LISTS = '''
     >>> face = ({"a": (500, 400, 0, 20, None, None), "plus": (700, 600, 80, 0, None, None)}, {}, False)
     >>> fonts = Fonts([(face, face, face)], (numbers, numbers, numbers), settings)
     >>> a, p = ("symbol", "ord", 0, "a", None, None), ("symbol", "bin", 0, "plus", None, None)
+    >>> box = layout(fonts, [a, p, a], 2)
+    >>> [box.width, box.height, box.depth, box.marks[1]]
+    [1772, 600, 80, (536, 0, ('glyph', (1,), 0, 0, 'plus'))]
     >>> [arranged(fonts, [p, a], 2), arranged(fonts, [a, p, a], 4)[1]]
     [[((0,), 'ord', 2, 0, 0), ((1,), 'ord', 2, 0, 0)], ((1,), 'bin', 4, 0, 0)]
 '''
@@ -70,8 +75,8 @@ class Examples(unittest.TestCase):
     def test_formulas(self):
         self.run_example(FORMULAS, 4)
 
-    def test_lists(self):
-        self.run_example(LISTS, 10)
+    def test_layout(self):
+        self.run_example(LAYOUT, 13)
 
 
 class ToldExamples(unittest.TestCase):
@@ -117,6 +122,29 @@ class ToldExamples(unittest.TestCase):
         fonts = fonts_with({"xheight": 430}, glyphs={"hat": (300, 700, 0, 0, None, None)})
         told = accented(fonts, 0, 0, "hat", Box(500, 700, 0))
         self.assertEqual(told, Box(500, 970, 0, [(100, 270, ("glyph", (), 0, 0, "hat"))]))
+
+    def test_operator_symbol(self):
+        glyphs = {"a": (1000, 750, 250, 0, None, None), "b": (1000, 700, 101, 0, None, None)}
+        fonts = fonts_with({"axis": 250}, glyphs=glyphs)
+        box, _ = operator_symbol(fonts, 2, 0, "a", False)
+        self.assertEqual((box.height, box.depth, box.marks[0][1]), (750, 250, 0))
+        box, _ = operator_symbol(fonts, 2, 0, "b", False)
+        self.assertEqual((box.height, box.depth, box.marks[0][1]), (650, 151, -50))
+
+    def test_limits(self):
+        fonts = fonts_with({"gap1": 100, "gap3": 200, "gap5": 50})
+        nucleus, sup = Box(600, 500, 300), Box(800, 400, 30)
+        self.assertEqual(limit_shifts(fonts, 0, nucleus, sup, None)[0], 700)
+        self.assertEqual(limit_rooms(fonts, 0, sup, None)[0], 70)
+        told = limited(fonts, 0, nucleus, 0, sup, None)
+        self.assertEqual((told.width, told.height, told.depth), (800, 1150, 300))
+
+    def test_table(self):
+        fonts = fonts_with({"rule": 40}, {"baseline": 1200, "apart": 100})
+        for many, distance in ((0, 1200), (2, 1200), (3, 1280)):
+            rows = [[Box(0, 0, 300)]] + ["rule"] * many + [[Box(0, 500, 0)]]
+            upper, lower = table_grid(fonts, 0, "l", rows)[2]
+            self.assertEqual(upper - lower, distance)
 
 
 if __name__ == "__main__":

@@ -1,9 +1,10 @@
-"""The names, parameters and errors that the interface lists (points 2 and 4 to 56)."""
+"""The names, parameters and errors that the interface lists (points 2 and 4 to 66)."""
 
 import inspect
 import unittest
 
-from mathboxes import accents, boxes, delimiters, errors, fonts, formulas, lists, scripts
+from mathboxes import accents, boxes, delimiters, errors, fonts, formulas, fractions, layout, lists, operators, scripts
+from mathboxes import tables
 
 ERRORS = {
     "InvalidFont": ("part", "at"),
@@ -67,6 +68,25 @@ FUNCTIONS = {
         "centered": "(fonts, style, inner)",
         "accented": "(fonts, style, family, name, inner, old_inner=None, skew=0)",
         "accent_steps": "(fonts, family, size, name)",
+    },
+    layout: {
+        "layout": "(fonts, formula, style)",
+        "parts_of": "(fonts, formula, style)",
+    },
+    fractions: {
+        "fraction": "(fonts, style, num, den, *, thickness=None, left=None, right=None)",
+        "fraction_shifts": "(fonts, style, num, den, *, thickness=None)",
+    },
+    operators: {
+        "operator_symbol": "(fonts, style, family, name, is_wide)",
+        "limited": "(fonts, style, nucleus, slant, sup, sub)",
+        "limit_shifts": "(fonts, style, nucleus, sup, sub)",
+        "limit_rooms": "(fonts, style, sup, sub)",
+    },
+    tables: {
+        "tabled": "(fonts, style, columns, rows)",
+        "table_grid": "(fonts, style, columns, rows)",
+        "table_rooms": "(fonts, style, columns, rows)",
     },
 }
 

@@ -1,0 +1,49 @@
+"""Parts: boxes whose marks are not in their places yet.
+
+A formula is laid out from its inner parts to the outer ones, and each of these moves those within it. So a part only
+tells where its parts stand in it; the marks are put in their places once, when the outermost part becomes a box.
+"""
+
+from mathboxes.boxes import Box
+
+
+class Part:
+    """Sizes as those of a box, and marks as tuples (x, y, mark), in which a part or a box may stand for a mark."""
+
+    def __init__(self, width, height, depth, marks):
+        self.width = width
+        self.height = height
+        self.depth = depth
+        self.marks = marks
+
+
+def boxed(part):
+    marks = []
+    put_marks(marks, part.marks, 0, 0)
+    return Box(part.width, part.height, part.depth, marks)
+
+
+def put_marks(found, marks, x, y):
+    for dx, dy, mark in marks:
+        if isinstance(mark, tuple):
+            found.append((x + dx, y + dy, mark))
+        else:
+            put_marks(found, mark.marks, x + dx, y + dy)
+
+
+def lifted(part, dy):
+    """A part or a box that is moved up."""
+    return Part(part.width, part.height + dy, part.depth - dy, [(0, dy, part)])
+
+
+def side_by_side(fonts, parts):
+    """Parts or boxes side by side, on one baseline."""
+    width = 0
+    heights, depths = [0], [0]
+    marks = []
+    for part in parts:
+        marks.append((width, 0, part))
+        heights.append(part.height)
+        depths.append(part.depth)
+        width += part.width
+    return Part(width, fonts.greatest(heights), fonts.greatest(depths), marks)
