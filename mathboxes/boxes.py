@@ -128,6 +128,11 @@ def widened(box, width):
 def ink(box):
     """What is seen of a box: its marks, sorted, without their paths."""
     check_box(box)
+    return ink_of(box)
+
+
+def ink_of(box):
+    """As ink, without its checks."""
     return sorted([(x, y, mark[0]) + mark[2:] for x, y, mark in box.marks])
 
 
@@ -145,7 +150,7 @@ def first_unlike(one, other):
         return ("height",)
     if one.depth != other.depth:
         return ("depth",)
-    return unlike_ink(ink(one), ink(other))
+    return unlike_ink(ink_of(one), ink_of(other))
 
 
 def unlike_ink(one, other):

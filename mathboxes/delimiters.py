@@ -3,7 +3,7 @@
 from mathboxes.boxes import check_box
 from mathboxes.checks import check_amount, check_delimiter, check_fonts, check_signed, check_size, check_style
 from mathboxes.measures import half, size_of
-from mathboxes.parts import Part, boxed, lifted, side_by_side
+from mathboxes.parts import Part, Stack, boxed, lifted, side_by_side
 
 MOST_REPEATS = 60
 
@@ -170,30 +170,17 @@ def standing_part(fonts, choice, path):
 
 def stacked_part(fonts, family, size, parts, many, path):
     """The box of pieces that stand on one another."""
-    names = piece_names(parts, many)
-    pieces = [fonts.glyph_if_any(family, size, name) for name in names]
-    total = sum([total_of(piece) for piece in pieces])
-    height = pieces[-1][1] if pieces else 0
-    lower = height - total
-    marks = []
-    for name, piece in zip(names, pieces):
-        marks.append((0, lower + piece[2], ("glyph", path, family, size, name)))
-        lower += total_of(piece)
-    rep = fonts.glyph_if_any(family, size, parts[3])
-    return Part(rep[0] + rep[3], height, total - height, marks)
-
-
-def piece_names(parts, many):
-    """The pieces from below: bottom, repeats, middle, repeats, top, as far as they are there."""
     top, middle, bottom, rep = parts
-    names = [rep] * many
-    if middle is not None:
-        names = names + [middle] + names
-    if bottom is not None:
-        names = [bottom] + names
-    if top is not None:
-        names = names + [top]
-    return names
+    pieces = []
+    # If there is no middle, nothing comes behind the first repeats either.
+    for name, times in ((bottom, 1), (rep, many), (middle, 1), (rep, 0 if middle is None else many), (top, 1)):
+        if name is not None and times > 0:
+            pieces.append((name, fonts.glyph_if_any(family, size, name), times))
+    total = sum([times * total_of(piece) for _, piece, times in pieces])
+    height = pieces[-1][1][1] if pieces else 0
+    width, _, _, slant, _, _ = fonts.glyph_if_any(family, size, rep)
+    stack = Stack(path, family, size, pieces, height - total)
+    return Part(width + slant, height, total - height, [(0, 0, stack)])
 
 
 def fence_least_of(fonts, size, height, depth):

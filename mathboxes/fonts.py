@@ -6,19 +6,35 @@ from mathboxes.faces import check_families, check_numbers, check_place, check_se
 from mathboxes.kinds import is_between, is_name, is_size
 
 
+class Kept:
+    """What fonts have; it was checked and is never changed, so that several fonts may have it in common."""
+
+    def __init__(self, families, numbers, settings, skew):
+        self.families = families
+        self.numbers = numbers
+        self.settings = settings
+        self.skew = skew
+
+
 class Fonts:
     """Families of faces with their numbers and settings; they never change."""
 
     def __init__(self, families, numbers, settings, *, skew=None):
-        check_families(families)
-        check_numbers(numbers)
-        check_settings(settings)
-        if skew is not None and not is_name(skew):
-            raise InvalidFont("skew", ())
-        self._families = [copied_family(family) for family in families]
-        self._numbers = [dict(table) for table in numbers]
-        self._settings = dict(settings)
-        self._skew = skew
+        # The package itself hands over what other fonts have: that needs no second check.
+        if isinstance(families, Kept):
+            self.kept = families
+        else:
+            check_families(families)
+            check_numbers(numbers)
+            check_settings(settings)
+            if skew is not None and not is_name(skew):
+                raise InvalidFont("skew", ())
+            faces = [copied_family(family) for family in families]
+            self.kept = Kept(faces, [dict(table) for table in numbers], dict(settings), skew)
+        self._families = self.kept.families
+        self._numbers = self.kept.numbers
+        self._settings = self.kept.settings
+        self._skew = self.kept.skew
 
     def __eq__(self, other):
         return (
@@ -79,7 +95,15 @@ class Fonts:
     def setting_of(self, word):
         return self._settings[word]
 
-    # All that the sizes of boxes decide is decided by the next three, so that it can be watched from elsewhere.
+    # The next two stand around each formula that is laid out; other fonts may remember what became of it.
+
+    def remembered(self, path, style):
+        return None
+
+    def remember(self, path, style, part):
+        return None
+
+    # All that the sizes of boxes decide is decided by the next three, so that other fonts may note it.
 
     def greatest(self, numbers):
         return max(numbers)
@@ -104,17 +128,17 @@ class Fonts:
         check_place(word, size)
         if not is_number_for(word, number):
             raise InvalidNumber(number)
-        numbers = [dict(table) for table in self._numbers]
-        settings = dict(self._settings)
-        if word in SETTING_WORDS:
-            settings[word] = number
+        return self.with_number(word, size, number)
+
+    def with_number(self, word, size, number):
+        """As changed, without its checks."""
+        numbers, settings = self._numbers, self._settings
+        if size is None:
+            settings = {**settings, word: number}
         else:
-            numbers[size][word] = number
-        empty = ({}, {}, False)
-        fonts = Fonts([(empty, empty, empty)], tuple(numbers), settings, skew=self._skew)
-        # Families never change, so both may have the same ones, which need no second check.
-        fonts._families = self._families
-        return fonts
+            numbers = list(numbers)
+            numbers[size] = {**numbers[size], word: number}
+        return Fonts(Kept(self._families, numbers, settings, self._skew), None, None)
 
 
 def copied_family(family):

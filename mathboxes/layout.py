@@ -6,8 +6,7 @@ from mathboxes.delimiters import fence_least_of, grown_part, root_part
 from mathboxes.errors import NoGlyph
 from mathboxes.formulas import check_formula
 from mathboxes.fractions import fraction_part
-from mathboxes.lists import Place, class_at_end, cramped, den_style, num_style, places_of, room_between
-from mathboxes.lists import sub_style, sup_style
+from mathboxes.lists import Place, class_at_end, places_of, room_between, style_within
 from mathboxes.operators import operator_glyph, with_limits
 from mathboxes.parts import Part, boxed, side_by_side
 from mathboxes.scripts import with_scripts
@@ -18,7 +17,7 @@ from mathboxes.tables import table_part
 def layout(fonts, formula, style):
     """The box of a formula."""
     check_layout(fonts, formula, style)
-    return boxed(formula_part(fonts, formula, style, ()))
+    return box_of(fonts, formula, style)
 
 
 def parts_of(fonts, formula, style):
@@ -48,9 +47,17 @@ def placed_parts(fonts, formula, style):
 # The path is always the one with which the paths of what is laid out begin.
 
 
+def box_of(fonts, formula, style):
+    return boxed(formula_part(fonts, formula, style, ()))
+
+
 def formula_part(fonts, formula, style, path):
-    places = places_of(fonts, formula, style, path)
-    return row_part(fonts, places, [part_at(fonts, place) for place in places])
+    part = fonts.remembered(path, style)
+    if part is None:
+        places = places_of(fonts, formula, style, path)
+        part = row_part(fonts, places, [part_at(fonts, place) for place in places])
+        fonts.remember(path, style, part)
+    return part
 
 
 def row_part(fonts, places, parts):
@@ -100,19 +107,21 @@ def symbol_part(fonts, place):
 
 def script_parts(fonts, place):
     """The boxes of both scripts of an item, None for one that is not there."""
-    return script_part(fonts, place, 0, sup_style(place.style)), script_part(fonts, place, 1, sub_style(place.style))
+    sup_at, sub_at = PLACES[place.item[0]][1]
+    return script_part(fonts, place, sup_at), script_part(fonts, place, sub_at)
 
 
-def script_part(fonts, place, which, style):
-    at = PLACES[place.item[0]][1][which]
+def script_part(fonts, place, at):
     formula = place.item[at]
     if formula is None:
         return None
+    style = style_within(place.item[0], at, place.style)
     return formula_part(fonts, formula, style, (*place.scripts_path, at))
 
 
-def inner_part(fonts, place, at, style):
+def inner_part(fonts, place, at):
     """The box of the formula that stands somewhere in an item."""
+    style = style_within(place.item[0], at, place.style)
     return formula_part(fonts, place.item[at], style, (*place.path, at))
 
 
@@ -125,32 +134,32 @@ def with_own_scripts(fonts, place, nucleus):
 
 
 def list_part(fonts, place):
-    return with_own_scripts(fonts, place, inner_part(fonts, place, 2, place.style))
+    return with_own_scripts(fonts, place, inner_part(fonts, place, 2))
 
 
 def over_part(fonts, place):
-    inner = inner_part(fonts, place, 1, cramped(place.style))
+    inner = inner_part(fonts, place, 1)
     return with_own_scripts(fonts, place, overlined_part(fonts, place.style, inner, place.path))
 
 
 def under_part(fonts, place):
-    inner = inner_part(fonts, place, 1, place.style)
+    inner = inner_part(fonts, place, 1)
     return with_own_scripts(fonts, place, underlined_part(fonts, place.style, inner, place.path))
 
 
 def center_part(fonts, place):
-    inner = inner_part(fonts, place, 1, place.style)
+    inner = inner_part(fonts, place, 1)
     return with_own_scripts(fonts, place, centered_part(fonts, place.style, inner))
 
 
 def rooted_part(fonts, place):
-    inner = inner_part(fonts, place, 2, cramped(place.style))
+    inner = inner_part(fonts, place, 2)
     return with_own_scripts(fonts, place, root_part(fonts, place.style, place.item[1], inner, place.path))
 
 
 def fractioned_part(fonts, place):
-    num = inner_part(fonts, place, 1, num_style(place.style))
-    den = inner_part(fonts, place, 2, den_style(place.style))
+    num = inner_part(fonts, place, 1)
+    den = inner_part(fonts, place, 2)
     return fraction_part(fonts, place.style, num, den, place.item[3:], place.path)
 
 
@@ -165,7 +174,7 @@ def accent_part(fonts, place):
     _, family, name, formula, sup, sub = place.item
     if fonts.glyph_if_any(family, place.size, name) is None:
         raise NoGlyph(family, name)
-    old = inner_part(fonts, place, 3, cramped(place.style))
+    old = inner_part(fonts, place, 3)
     if not is_lone(formula):
         part = accented_part(fonts, place.style, family, name, old, old, 0, place.path)
         return with_own_scripts(fonts, place, part)
@@ -194,7 +203,7 @@ def operator_part(fonts, place):
         if not has_limits and sub is None:
             slant = 0
     else:
-        nucleus = inner_part(fonts, place, 2, place.style)
+        nucleus = inner_part(fonts, place, 2)
     if sup is None and sub is None:
         return nucleus
     sup_part, sub_part = script_parts(fonts, place)

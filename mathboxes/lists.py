@@ -68,6 +68,25 @@ def cramped(style):
     return style | 1
 
 
+# By which functions the styles of formulas within items go, told by the item's word and by where the formula stands in
+# it; where none stands here, it is the item's own style.
+STYLES_WITHIN = {
+    ("over", 1): cramped, ("root", 2): cramped, ("accent", 3): cramped,
+    ("fraction", 1): num_style, ("fraction", 2): den_style,
+    ("symbol", 4): sup_style, ("symbol", 5): sub_style, ("list", 3): sup_style, ("list", 4): sub_style,
+    ("over", 2): sup_style, ("over", 3): sub_style, ("under", 2): sup_style, ("under", 3): sub_style,
+    ("center", 2): sup_style, ("center", 3): sub_style, ("root", 3): sup_style, ("root", 4): sub_style,
+    ("accent", 4): sup_style, ("accent", 5): sub_style, ("operator", 3): sup_style, ("operator", 4): sub_style,
+    ("fence", 4): sup_style, ("fence", 5): sub_style, ("table", 3): sup_style, ("table", 4): sub_style,
+}
+
+
+def style_within(word, at, style):
+    """The style of a formula that stands somewhere in an item of a style; not for what a choice has."""
+    rule = STYLES_WITHIN.get((word, at))
+    return style if rule is None else rule(style)
+
+
 def space(one, other, style):
     """The word of the space between atoms of two classes, or None."""
     if not is_list_class(one):
@@ -151,14 +170,23 @@ def gather(row, formula, style, path):
     """Put what a formula has into a row; return the style that holds at its end."""
     for at, item in enumerate(formula):
         if item[0] == "style":
-            # What began in a cramped style stays cramped.
-            style = item[1] | (style & 1)
+            style = style_behind(item, style)
         elif item[0] == "choice":
-            taken = style // 2 + 1
+            taken = taken_of(style)
             style = gather(row, item[taken], style, (*path, at, taken))
         else:
             row.append(Place((*path, at), item, style))
     return style
+
+
+def style_behind(item, style):
+    """The style that holds behind a style item: what began in a cramped one stays cramped."""
+    return item[1] | (style & 1)
+
+
+def taken_of(style):
+    """Which one of a choice's formulas belongs to a style, told by where it stands in the choice."""
+    return style // 2 + 1
 
 
 def class_told(item):

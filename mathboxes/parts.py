@@ -17,6 +17,20 @@ class Part:
         self.marks = marks
 
 
+class Stack:
+    """Glyphs on one another, in the place of a mark: as tuples (name, glyph, how often), from below.
+
+    They may be many, so their marks are only made when these are put in their places.
+    """
+
+    def __init__(self, path, family, size, pieces, lower):
+        self.path = path
+        self.family = family
+        self.size = size
+        self.pieces = pieces
+        self.lower = lower
+
+
 def boxed(part):
     marks = []
     put_marks(marks, part.marks, 0, 0)
@@ -27,8 +41,19 @@ def put_marks(found, marks, x, y):
     for dx, dy, mark in marks:
         if isinstance(mark, tuple):
             found.append((x + dx, y + dy, mark))
+        elif isinstance(mark, Stack):
+            put_stack(found, mark, x + dx, y + dy)
         else:
             put_marks(found, mark.marks, x + dx, y + dy)
+
+
+def put_stack(found, stack, x, y):
+    lower = y + stack.lower
+    for name, glyph, many in stack.pieces:
+        mark = ("glyph", stack.path, stack.family, stack.size, name)
+        for _ in range(many):
+            found.append((x, lower + glyph[2], mark))
+            lower += glyph[1] + glyph[2]
 
 
 def lifted(part, dy):

@@ -5,10 +5,12 @@ import unittest
 
 from mathboxes.accents import accent_steps, accented, centered, overlined
 from mathboxes.boxes import Box
+from mathboxes.effects import felt_numbers, idle_paths, replaced_marks
+from mathboxes.lines import line_costs
 from mathboxes.operators import limit_rooms, limit_shifts, limited, operator_symbol
 from mathboxes.scripts import rooms, ruling, shifts
 from mathboxes.tables import table_grid
-from tests.samples import fonts_with
+from tests.samples import fonts_with, symbol
 
 FONTS = '''
     >>> from mathboxes.fonts import Fonts
@@ -145,6 +147,27 @@ class ToldExamples(unittest.TestCase):
             rows = [[Box(0, 0, 300)]] + ["rule"] * many + [[Box(0, 500, 0)]]
             upper, lower = table_grid(fonts, 0, "l", rows)[2]
             self.assertEqual(upper - lower, distance)
+
+    def test_line_costs(self):
+        def wide(width, kind="ord"):
+            return ("list", kind, [("kern", width, "units")], None, None)
+        row = [wide(60), wide(10, "bin"), wide(100), wide(10, "rel"), wide(20)]
+        self.assertEqual(line_costs(fonts_with(), row, 2, "behind", [2, 4], 100, (3, 1)), (10, 900 + 3 + 1))
+
+    def test_replaced_marks(self):
+        fonts = fonts_with({}, {}, {"x": (500, 1, 1, 0, None, None), "y": (300, 1, 1, 0, None, None)})
+        told = replaced_marks(fonts, [symbol("x")] * 3, 2, (1,), symbol("y"))
+        self.assertEqual(told, [((0,), ("stays",)), ((2,), ("moves", -200, 0))])
+
+    def test_idle_paths(self):
+        formula = [("choice", [], [("kern", 1, "units")], [], [])]
+        self.assertEqual(idle_paths(formula, 0), [(0, 2, 0)])
+        self.assertEqual(idle_paths(formula, 3), [])
+
+    def test_felt_numbers(self):
+        fonts = fonts_with({}, {}, {"x": (500, 1, 1, 0, None, None)})
+        for style in range(8):
+            self.assertEqual(felt_numbers(fonts, [symbol("x")], style), [])
 
 
 if __name__ == "__main__":

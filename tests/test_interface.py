@@ -1,10 +1,12 @@
-"""The names, parameters and errors that the interface lists (points 2 and 4 to 66)."""
+"""The names, parameters and errors that the interface lists (points 2 and 4 to 86)."""
 
 import inspect
 import unittest
 
-from mathboxes import accents, boxes, delimiters, errors, fonts, formulas, fractions, layout, lists, operators, scripts
-from mathboxes import tables
+from mathboxes import (
+    accents, boxes, compare, delimiters, effects, errors, fonts, formulas, fractions, layout, lines, lists, moving,
+    operators, scripts, tables,
+)
 
 ERRORS = {
     "InvalidFont": ("part", "at"),
@@ -87,6 +89,33 @@ FUNCTIONS = {
         "tabled": "(fonts, style, columns, rows)",
         "table_grid": "(fonts, style, columns, rows)",
         "table_rooms": "(fonts, style, columns, rows)",
+    },
+    lines: {
+        "break_places": "(fonts, formula, style, where)",
+        "lines_box": "(fonts, formula, style, where, breaks)",
+        "line_costs": "(fonts, formula, style, where, breaks, width, costs)",
+        "broken": "(fonts, formula, style, where, width, costs)",
+        "least_page": "(fonts, formula, style, where, most)",
+        "pages": "(fonts, formula, style, where, costs, first, last)",
+    },
+    moving: {
+        "pieces": "(fonts, formula, style, word, size, step, last)",
+        "first_step": "(fonts, formula, style, word, size, step, last, part, bound)",
+        "ranges": "(fonts, formula, style, word, size, step, last)",
+        "parting": "(fonts, formula, other, style, word, size, step, last)",
+    },
+    compare: {
+        "marks_of": "(fonts, formula, style)",
+        "what_moves": "(fonts, formula, one, other)",
+        "same_ink_styles": "(fonts, one, other)",
+        "alike_styles": "(fonts, formula)",
+    },
+    effects: {
+        "replaced_marks": "(fonts, formula, style, path, item)",
+        "idle_paths": "(formula, style)",
+        "style_sizes": "(fonts, formula)",
+        "felt_numbers": "(fonts, formula, style)",
+        "fitting_style": "(fonts, formula, width, height, depth)",
     },
 }
 

@@ -1,0 +1,150 @@
+"""Fonts that remember or note what is done with them while a formula is laid out."""
+
+from mathboxes.fonts import Fonts
+from mathboxes.parts import Part
+
+
+class KeepingFonts(Fonts):
+    """Fonts for one formula in several styles: what comes again in the same style is not laid out again."""
+
+    def __init__(self, fonts):
+        Fonts.__init__(self, fonts.kept, None, None)
+        self.parts = {}
+
+    def remembered(self, path, style):
+        return self.parts.get((path, style))
+
+    def remember(self, path, style, part):
+        self.parts[path, style] = part
+
+
+class NotedFonts(Fonts):
+    """Fonts that note which numbers are looked at, as tuples (word, size), and by which formula."""
+
+    def __init__(self, fonts):
+        Fonts.__init__(self, fonts.kept, None, None)
+        # What was noted of the formulas that are being laid out, the innermost one last; the first one is none of them.
+        self.open_notes = [{}]
+        # For each formula that was laid out, by its path and style, its box and what was noted of it.
+        self.parts = {}
+
+    def number_of(self, word, size):
+        self.open_notes[-1][word, size] = True
+        return Fonts.number_of(self, word, size)
+
+    def setting_of(self, word):
+        self.open_notes[-1][word, None] = True
+        return Fonts.setting_of(self, word)
+
+    def remembered(self, path, style):
+        self.open_notes.append({})
+        return None
+
+    def remember(self, path, style, part):
+        notes = self.open_notes.pop()
+        self.parts[path, style] = (part, notes)
+        self.open_notes[-1].update(notes)
+
+    def notes(self):
+        """All numbers that were looked at."""
+        return dict(self.open_notes[0])
+
+
+class RememberingFonts(Fonts):
+    """Fonts with another number at one place, that remember what was laid out without a look at this place."""
+
+    def __init__(self, noted, word, size, number):
+        Fonts.__init__(self, noted.with_number(word, size, number).kept, None, None)
+        self.parts = noted.parts
+        self.place = (word, size)
+
+    def remembered(self, path, style):
+        part, notes = self.parts.get((path, style), (None, ()))
+        return None if self.place in notes else part
+
+
+class Run:
+    """What came of a formula that was laid out once: its sizes, and what was decided on the way to them."""
+
+    def __init__(self, part, turns, tests):
+        self.sizes = (part.width, part.height, part.depth)
+        self.turns = turns
+        self.tests = tests
+
+
+class Stretch:
+    """Steps in which the sizes of a formula go in a straight line."""
+
+    def __init__(self, first, last, sizes, slopes):
+        self.first = first
+        self.last = last
+        self.sizes = sizes
+        self.slopes = slopes
+
+    def has(self, step):
+        return self.first <= step <= self.last
+
+    def sizes_at(self, step):
+        return sizes_behind(self.sizes, self.slopes, step - self.first)
+
+
+def sizes_behind(sizes, slopes, steps):
+    return tuple([there + steps * slope for there, slope in zip(sizes, slopes)])
+
+
+class DecidedFonts(Fonts):
+    """The fonts of one step of a move, which note what is decided by numbers, in order.
+
+    Each turn is a number that tells what was decided. The tests are numbers that are at least 0: as long as they stay
+    so, the turns stay as they are, too.
+    """
+
+    def __init__(self, fonts, step, stretches):
+        Fonts.__init__(self, fonts.kept, None, None)
+        self.step = step
+        # What is known of formulas, by their paths and styles: these need not be laid out.
+        self.stretches = stretches
+        self.turns = []
+        self.tests = []
+        # For the formulas that are being laid out, how many turns and tests there were ahead of them.
+        self.begun = []
+        self.runs = {}
+
+    def remembered(self, path, style):
+        stretch = self.stretches.get((path, style))
+        if stretch is not None and stretch.has(self.step):
+            self.turns.append(stretch.first)
+            self.tests.append(stretch.last - self.step)
+            return Part(*stretch.sizes_at(self.step), [])
+        self.begun.append((len(self.turns), len(self.tests)))
+        return None
+
+    def remember(self, path, style, part):
+        turns, tests = self.begun.pop()
+        self.runs[path, style] = Run(part, self.turns[turns:], self.tests[tests:])
+
+    def greatest(self, numbers):
+        found = max(numbers)
+        turn = numbers.index(found)
+        self.turns.append(turn)
+        # Of equal ones the first one is taken, so those ahead of it must be less.
+        for number in numbers[:turn]:
+            self.tests.append(found - number - 1)
+        for number in numbers[turn + 1:]:
+            self.tests.append(found - number)
+        return found
+
+    def reaches(self, number, bound):
+        is_there = number >= bound
+        self.turns.append(1 if is_there else 0)
+        self.tests.append(number - bound if is_there else bound - number - 1)
+        return is_there
+
+    def repeats(self, each, bound, most):
+        found = Fonts.repeats(self, each, bound, most)
+        self.turns.append(found)
+        if found > 0:
+            self.tests.append(bound - (found - 1) * each - 1)
+        if each > 0 and found < most:
+            self.tests.append(found * each - bound)
+        return found
