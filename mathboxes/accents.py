@@ -82,8 +82,7 @@ def centered_part(fonts, style, inner):
 def accented_part(fonts, style, family, name, inner, old, skew, path):
     """As accented, without its checks, with a mark of a path; the accent must be there."""
     size = size_of(style)
-    taken = accent_taken(fonts, family, size, name, old.width)
-    width, height, depth, slant = fonts.glyph_if_any(family, size, taken)[:4]
+    taken, (width, height, depth, slant, _, _) = accent_taken(fonts, family, size, name, old.width)
     # How far the lower end of the accent stands above the baseline: what OLD has above xheight.
     baseline = fonts.greatest([0, old.height - fonts.number_of("xheight", size)]) + depth
     left = skew + half(old.width - (width + slant))
@@ -92,9 +91,11 @@ def accented_part(fonts, style, family, name, inner, old, skew, path):
 
 
 def accent_taken(fonts, family, size, name, width):
-    """The name of the accent of a chain that is taken for a width."""
-    while True:
-        later = fonts.glyph_if_any(family, size, name)[4]
-        if later is None or not fonts.reaches(width, fonts.glyph_if_any(family, size, later)[0]):
-            return name
-        name = later
+    """The accent of a chain that is taken for a width, as a tuple (name, glyph)."""
+    glyph = fonts.glyph_if_any(family, size, name)
+    while glyph[4] is not None:
+        later = fonts.glyph_if_any(family, size, glyph[4])
+        if not fonts.reaches(width, later[0]):
+            break
+        name, glyph = glyph[4], later
+    return name, glyph

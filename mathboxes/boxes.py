@@ -2,7 +2,8 @@
 
 from mathboxes.checks import check_fonts, check_signed
 from mathboxes.errors import InvalidArgument, InvalidBox, NoGlyph
-from mathboxes.kinds import is_family, is_name, is_path, is_row, is_sequence, is_signed, is_size, is_word
+from mathboxes.kinds import LEAST, LIMIT, MOST_FAMILIES, MOST_LETTERS, SIZES
+from mathboxes.kinds import is_integer, is_row, is_sequence, is_signed
 
 
 class Box:
@@ -13,7 +14,7 @@ class Box:
         self.height = height
         self.depth = depth
         # Nothing is checked here, so what has no items stays for check_box to refuse.
-        self.marks = list(marks) if is_sequence(marks) else marks
+        self.marks = list(marks) if isinstance(marks, (list, tuple)) else marks
 
     def __eq__(self, other):
         return (
@@ -38,35 +39,59 @@ def wrong_part(box):
     """The first part by which a value is no box, or None if it is one."""
     if not isinstance(box, Box):
         return "box"
-    if not is_signed(box.width):
+    width, height, depth, marks = box.width, box.height, box.depth, box.marks
+    # Boxes are checked very often: what is plainly right is seen here, and is_signed tells only of the rest.
+    if not (type(width) is int and LEAST <= width <= LIMIT or is_signed(width)):
         return "width"
-    if not is_signed(box.height):
+    if not (type(height) is int and LEAST <= height <= LIMIT or is_signed(height)):
         return "height"
-    if not is_signed(box.depth):
+    if not (type(depth) is int and LEAST <= depth <= LIMIT or is_signed(depth)):
         return "depth"
-    if not isinstance(box.marks, list) or not all([is_placed_mark(placed) for placed in box.marks]):
+    if not isinstance(marks, list) or not are_marks(marks):
         return "marks"
     return None
 
 
-def is_placed_mark(value):
-    return is_row(value, 3) and is_signed(value[0]) and is_signed(value[1]) and is_mark(value[2])
-
-
-def is_mark(value):
-    return is_glyph_mark(value) or is_rule_mark(value)
-
-
-def is_glyph_mark(value):
-    if not (is_row(value, 5) and is_word(value[0], ("glyph",)) and is_path(value[1])):
-        return False
-    return is_family(value[2]) and is_size(value[3]) and is_name(value[4])
-
-
-def is_rule_mark(value):
-    if not (is_row(value, 4) and is_word(value[0], ("rule",)) and is_path(value[1])):
-        return False
-    return is_signed(value[2]) and is_signed(value[3])
+def are_marks(marks):
+    # A call takes longer than most of these tests, so they are all written out.
+    for placed in marks:
+        if not isinstance(placed, tuple) or len(placed) != 3:
+            return False
+        x, y, mark = placed
+        if not (type(x) is int and LEAST <= x <= LIMIT or is_signed(x)):
+            return False
+        if not (type(y) is int and LEAST <= y <= LIMIT or is_signed(y)):
+            return False
+        if not isinstance(mark, tuple):
+            return False
+        if len(mark) == 4:
+            word, path, width, height = mark
+            if not isinstance(word, str) or word != "rule":
+                return False
+            if not (type(width) is int and LEAST <= width <= LIMIT or is_signed(width)):
+                return False
+            if not (type(height) is int and LEAST <= height <= LIMIT or is_signed(height)):
+                return False
+        elif len(mark) == 5:
+            word, path, family, size, name = mark
+            if not isinstance(word, str) or word != "glyph":
+                return False
+            if not (type(family) is int or is_integer(family)) or not 0 <= family < MOST_FAMILIES:
+                return False
+            if not (type(size) is int or is_integer(size)) or not 0 <= size < SIZES:
+                return False
+            if not (isinstance(name, str) and len(name) <= MOST_LETTERS):
+                return False
+            if not (name.isascii() and name.isalpha() and name.islower()):
+                return False
+        else:
+            return False
+        if not isinstance(path, tuple):
+            return False
+        for step in path:
+            if not ((type(step) is int or is_integer(step)) and step >= 0):
+                return False
+    return True
 
 
 def beside(boxes):

@@ -104,8 +104,10 @@ def chosen_of(fonts, size, delimiter, least):
     """As chosen, without its checks: a total that is reckoned may be below 0, or too great for them."""
     best = None
     most = -1
-    for family, face_size, first in faces_of(size, delimiter):
-        for name, glyph in chain_if_any(fonts, family, face_size, first):
+    # Most often one of the first candidates is taken, so the others are not even listed.
+    for family, face_size, name in faces_of(size, delimiter):
+        glyph = fonts.glyph_if_any(family, face_size, name)
+        while glyph is not None:
             if glyph[5] is not None:
                 fixed, each = parts_totals(fonts, family, face_size, glyph[5])
                 return (family, face_size, name, fonts.repeats(each, least - fixed, MOST_REPEATS))
@@ -115,6 +117,8 @@ def chosen_of(fonts, size, delimiter, least):
             if total > most:
                 best = (family, face_size, name, None)
                 most = total
+            name = glyph[4]
+            glyph = None if name is None else fonts.glyph_if_any(family, face_size, name)
     return best
 
 

@@ -56,12 +56,11 @@ def felt_numbers(fonts, formula, style):
     noted = NotedFonts(fonts)
     part = formula_part(noted, formula, style, ())
     box = boxed(part)
-    looked_at = noted.notes()
     found = []
     for word, size in number_places():
         number = fonts.number_at(word, size)
         # What is not looked at can't change anything.
-        if (word, size) in looked_at and is_number_for(word, number + 1):
+        if noted.has_noted(word, size) and is_number_for(word, number + 1):
             other = formula_part(RememberingFonts(noted, word, size, number + 1), formula, style, ())
             if sizes_of(other) != sizes_of(part) or boxed(other) != box:
                 found.append((word, size))

@@ -3,7 +3,8 @@
 from mathboxes.errors import InvalidArgument, InvalidFont, InvalidNumber, NoGlyph
 from mathboxes.faces import SETTING_WORDS
 from mathboxes.faces import check_families, check_numbers, check_place, check_settings, is_number_for
-from mathboxes.kinds import is_between, is_name, is_size
+from mathboxes.kinds import is_family, is_name, is_size
+from mathboxes.measures import repeats_for
 
 
 class Kept:
@@ -35,6 +36,8 @@ class Fonts:
         self._numbers = self.kept.numbers
         self._settings = self.kept.settings
         self._skew = self.kept.skew
+        # Whether formulas that were laid out are remembered; there are other fonts, which do so.
+        self.remembers = False
 
     def __eq__(self, other):
         return (
@@ -46,7 +49,7 @@ class Fonts:
         return len(self._families)
 
     def glyph(self, family, size, name):
-        if not is_between(family, 0, len(self._families) - 1):
+        if not is_family(family) or family >= len(self._families):
             raise InvalidArgument("family")
         if not is_size(size):
             raise InvalidArgument("size")
@@ -95,14 +98,6 @@ class Fonts:
     def setting_of(self, word):
         return self._settings[word]
 
-    # The next two stand around each formula that is laid out; other fonts may remember what became of it.
-
-    def remembered(self, path, style):
-        return None
-
-    def remember(self, path, style, part):
-        return None
-
     # All that the sizes of boxes decide is decided by the next three, so that other fonts may note it.
 
     def greatest(self, numbers):
@@ -112,10 +107,7 @@ class Fonts:
         return number >= bound
 
     def repeats(self, each, bound, most):
-        """The least number of repeats with which all together reach a bound, but not more than the most."""
-        if bound <= 0 or each == 0:
-            return 0
-        return min(most, (bound + each - 1) // each)
+        return repeats_for(each, bound, most)
 
     def number_at(self, word, size):
         check_place(word, size)

@@ -1,7 +1,8 @@
 """The plain kinds of values: each function tells whether any value at all is of its kind.
 
 These run very often, so those that are asked most write their tests out instead of calling one another.
-Python counts a bool among the integers; the document does not: hence the tests for True and False.
+Python counts a bool among the integers; the document does not: hence the tests for True and False. What is plainly an
+int needs no such test, and is looked at first.
 """
 
 LIMIT = 10 ** 60
@@ -22,17 +23,23 @@ def is_integer(value):
 
 
 def is_between(value, least, greatest):
-    return isinstance(value, int) and value is not True and value is not False and least <= value <= greatest
+    if type(value) is not int and (not isinstance(value, int) or value is True or value is False):
+        return False
+    return least <= value <= greatest
 
 
 def is_amount(value):
     """An integer from 0 to 10 ** 60."""
-    return isinstance(value, int) and value is not True and value is not False and 0 <= value <= LIMIT
+    if type(value) is not int and (not isinstance(value, int) or value is True or value is False):
+        return False
+    return 0 <= value <= LIMIT
 
 
 def is_signed(value):
     """An integer from -10 ** 60 to 10 ** 60."""
-    return isinstance(value, int) and value is not True and value is not False and LEAST <= value <= LIMIT
+    if type(value) is not int and (not isinstance(value, int) or value is True or value is False):
+        return False
+    return LEAST <= value <= LIMIT
 
 
 def is_word(value, words):
@@ -58,21 +65,30 @@ def is_sequence(value):
 
 def is_family(value):
     """What a formula or a mark may tell as a family; fonts may have fewer."""
-    return isinstance(value, int) and value is not True and value is not False and 0 <= value < MOST_FAMILIES
+    if type(value) is not int and (not isinstance(value, int) or value is True or value is False):
+        return False
+    return 0 <= value < MOST_FAMILIES
 
 
 def is_size(value):
-    return is_between(value, 0, SIZES - 1)
+    if type(value) is not int and (not isinstance(value, int) or value is True or value is False):
+        return False
+    return 0 <= value < SIZES
 
 
 def is_style(value):
-    return is_between(value, 0, STYLES - 1)
+    if type(value) is not int and (not isinstance(value, int) or value is True or value is False):
+        return False
+    return 0 <= value < STYLES
 
 
 def is_path(value):
     if not isinstance(value, tuple):
         return False
-    return all([is_integer(step) and step >= 0 for step in value])
+    for step in value:
+        if not ((type(step) is int or is_integer(step)) and step >= 0):
+            return False
+    return True
 
 
 def is_delimiter(value):

@@ -52,10 +52,19 @@ def box_of(fonts, formula, style):
 
 
 def formula_part(fonts, formula, style, path):
-    part = fonts.remembered(path, style)
-    if part is None:
+    if fonts.remembers:
+        part = fonts.remembered(path, style)
+        if part is not None:
+            return part
+    if len(formula) == 0:
+        part = Part(0, 0, 0, [])
+    elif len(formula) == 1 and formula[0][0] == "symbol":
+        # Very many formulas are one symbol; it is all of its row, whatever its class is.
+        part = symbol_part(fonts, Place((*path, 0), formula[0], style))
+    else:
         places = places_of(fonts, formula, style, path)
         part = row_part(fonts, places, [part_at(fonts, place) for place in places])
+    if fonts.remembers:
         fonts.remember(path, style, part)
     return part
 
@@ -67,7 +76,12 @@ def row_part(fonts, places, parts):
     marks = []
     for place, part in zip(places, parts):
         width += place.ahead
-        marks.append((width, 0, part))
+        if len(part.marks) == 1:
+            # What stands alone in its part can as well stand in the row.
+            dx, dy, mark = part.marks[0]
+            marks.append((width + dx, dy, mark))
+        elif part.marks:
+            marks.append((width, 0, part))
         heights.append(part.height)
         depths.append(part.depth)
         width += part.width + place.behind

@@ -4,7 +4,7 @@ from mathboxes.checks import check_fonts, check_style
 from mathboxes.errors import InvalidArgument
 from mathboxes.formulas import check_formula
 from mathboxes.kinds import is_list_class
-from mathboxes.measures import size_of
+from mathboxes.measures import SIZES_OF_STYLES
 
 SUP_STYLES = (4, 5, 4, 5, 6, 7, 6, 7)
 SUB_STYLES = (5, 5, 5, 5, 7, 7, 7, 7)
@@ -40,7 +40,7 @@ class Place:
         self.scripts_path = path
         self.item = item
         self.style = style
-        self.size = size_of(style)
+        self.size = SIZES_OF_STYLES[style]
         # The class of an atom; the space ahead of it; the kern of a pair behind it.
         self.kind = None
         self.ahead = 0
@@ -109,7 +109,7 @@ def room_between(fonts, one, other, style):
     word = space_between(one, other, style)
     if word is None:
         return 0
-    return fonts.setting_of(word) * fonts.number_of("quad", size_of(style)) // 18
+    return fonts.setting_of(word) * fonts.number_of("quad", SIZES_OF_STYLES[style]) // 18
 
 
 def arranged(fonts, formula, style):

@@ -77,7 +77,7 @@ def signs(c0, c1, c2, first, last):
     found = []
     for start, later in zip(starts, starts[1:] + [last + 1]):
         value = c0 + (c1 + c2 * start) * start
-        found.append((start, later - 1, (value > 0) - (value < 0)))
+        found.append((start, later - 1, 0 if value == 0 else (1 if value > 0 else -1)))
     return found
 
 

@@ -32,8 +32,19 @@ class Stack:
 
 
 def boxed(part):
+    """The box of a part, with all marks in their places."""
     marks = []
-    put_marks(marks, part.marks, 0, 0)
+    for x, y, mark in part.marks:
+        # Boxes that are handed to the package are most often here, and have no parts.
+        if isinstance(mark, Box):
+            if x == 0 and y == 0:
+                marks.extend(mark.marks)
+            else:
+                marks.extend([(x + dx, y + dy, inner) for dx, dy, inner in mark.marks])
+        elif isinstance(mark, tuple):
+            marks.append((x, y, mark))
+        else:
+            put_marks(marks, [(x, y, mark)], 0, 0)
     return Box(part.width, part.height, part.depth, marks)
 
 

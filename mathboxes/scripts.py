@@ -1,12 +1,14 @@
 """Scripts: how far they are raised and lowered, and the boxes that have them."""
 
-from mathboxes.boxes import check_box_argument
+from mathboxes.boxes import wrong_part
 from mathboxes.checks import check_amount, check_fonts, check_style
 from mathboxes.errors import InvalidArgument
-from mathboxes.lists import sub_style, sup_style
-from mathboxes.measures import size_of
+from mathboxes.measures import SIZES_OF_STYLES
 from mathboxes.parts import Part, boxed
 
+# For each style the size of its scripts, and the number that counts for the rise.
+SIZES_OF_SCRIPTS = (1, 1, 1, 1, 2, 2, 2, 2)
+RISE_NUMBERS = ("sup1", "sup3", "sup2", "sup3", "sup2", "sup3", "sup2", "sup3")
 RISE_WORDS = ("nucleus", "font", "sup")
 FALL_WORDS = ("nucleus", "font", "sub")
 
@@ -58,14 +60,15 @@ def rooms(fonts, style, nucleus, is_glyph, sup, sub):
 def check_scripts(fonts, style, nucleus, is_glyph, slant, sup, sub):
     check_fonts(fonts)
     check_style(style)
-    check_box_argument(nucleus, "nucleus")
+    if wrong_part(nucleus) is not None:
+        raise InvalidArgument("nucleus")
     if not isinstance(is_glyph, bool):
         raise InvalidArgument("is_glyph")
     check_amount(slant, "slant")
-    if sup is not None:
-        check_box_argument(sup, "sup")
-    if sub is not None:
-        check_box_argument(sub, "sub")
+    if sup is not None and wrong_part(sup) is not None:
+        raise InvalidArgument("sup")
+    if sub is not None and wrong_part(sub) is not None:
+        raise InvalidArgument("sub")
 
 
 def with_scripts(fonts, style, nucleus, is_glyph, slant, sup, sub):
@@ -105,34 +108,32 @@ def shifts_of(fonts, style, nucleus, is_glyph, sup, sub):
 
 def rise_bounds(fonts, style, nucleus, is_glyph, sup):
     """Of what the rise is the greatest, ahead of a look at the gap; in the order of RISE_WORDS."""
-    size = size_of(style)
-    by_nucleus = 0 if is_glyph else nucleus.height - fonts.number_of("supdrop", size_of(sup_style(style)))
-    if style == 0:
-        word = "sup1"
-    else:
-        word = "sup3" if style & 1 else "sup2"
-    return [by_nucleus, fonts.number_of(word, size), sup.depth + fonts.number_of("xheight", size) // 4]
+    size = SIZES_OF_STYLES[style]
+    by_nucleus = 0 if is_glyph else nucleus.height - fonts.number_of("supdrop", SIZES_OF_SCRIPTS[style])
+    return [
+        by_nucleus, fonts.number_of(RISE_NUMBERS[style], size), sup.depth + fonts.number_of("xheight", size) // 4,
+    ]
 
 
 def fall_bounds(fonts, style, nucleus, is_glyph, sup, sub):
     """Of what the fall is the greatest, ahead of a look at the gap; in the order of FALL_WORDS."""
-    size = size_of(style)
-    by_nucleus = 0 if is_glyph else nucleus.depth + fonts.number_of("subdrop", size_of(sub_style(style)))
+    size = SIZES_OF_STYLES[style]
+    by_nucleus = 0 if is_glyph else nucleus.depth + fonts.number_of("subdrop", SIZES_OF_SCRIPTS[style])
     if sup is None:
-        return [by_nucleus, fonts.number_of("sub1", size), sub.height - highest_end(fonts, size)]
+        return [by_nucleus, fonts.number_of("sub1", size), sub.height - highest_end(fonts, style)]
     return [by_nucleus, fonts.number_of("sub2", size)]
 
 
-def highest_end(fonts, size):
-    return 4 * fonts.number_of("xheight", size) // 5
+def highest_end(fonts, style):
+    return 4 * fonts.number_of("xheight", SIZES_OF_STYLES[style]) // 5
 
 
 def spare_gap(fonts, style, rise, fall, sup, sub):
     """How much greater the gap between both scripts is than it must be; it lacks something below 0."""
     gap = (rise - sup.depth) - (sub.height - fall)
-    return gap - 4 * fonts.number_of("rule", size_of(style))
+    return gap - 4 * fonts.number_of("rule", SIZES_OF_STYLES[style])
 
 
 def lift_of(fonts, style, rise, sup):
     """How far both scripts must move up where the gap has lowered the sub; not at all below 0."""
-    return highest_end(fonts, size_of(style)) - (rise - sup.depth)
+    return highest_end(fonts, style) - (rise - sup.depth)

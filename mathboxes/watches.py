@@ -1,6 +1,11 @@
-"""Fonts that remember or note what is done with them while a formula is laid out."""
+"""Fonts that remember or note what is done with them while a formula is laid out.
+
+Of each formula, and of those within it, they are asked first whether its box is remembered, by its path and its style;
+if not, they are told the box as soon as it is there.
+"""
 
 from mathboxes.fonts import Fonts
+from mathboxes.measures import repeats_for
 from mathboxes.parts import Part
 
 
@@ -9,6 +14,7 @@ class KeepingFonts(Fonts):
 
     def __init__(self, fonts):
         Fonts.__init__(self, fonts.kept, None, None)
+        self.remembers = True
         self.parts = {}
 
     def remembered(self, path, style):
@@ -23,6 +29,7 @@ class NotedFonts(Fonts):
 
     def __init__(self, fonts):
         Fonts.__init__(self, fonts.kept, None, None)
+        self.remembers = True
         # What was noted of the formulas that are being laid out, the innermost one last; the first one is none of them.
         self.open_notes = [{}]
         # For each formula that was laid out, by its path and style, its box and what was noted of it.
@@ -30,11 +37,11 @@ class NotedFonts(Fonts):
 
     def number_of(self, word, size):
         self.open_notes[-1][word, size] = True
-        return Fonts.number_of(self, word, size)
+        return self._numbers[size][word]
 
     def setting_of(self, word):
         self.open_notes[-1][word, None] = True
-        return Fonts.setting_of(self, word)
+        return self._settings[word]
 
     def remembered(self, path, style):
         self.open_notes.append({})
@@ -43,11 +50,13 @@ class NotedFonts(Fonts):
     def remember(self, path, style, part):
         notes = self.open_notes.pop()
         self.parts[path, style] = (part, notes)
-        self.open_notes[-1].update(notes)
+        around = self.open_notes[-1]
+        for place in notes:
+            around[place] = True
 
-    def notes(self):
-        """All numbers that were looked at."""
-        return dict(self.open_notes[0])
+    def has_noted(self, word, size):
+        """Whether a number was looked at by any formula."""
+        return (word, size) in self.open_notes[0]
 
 
 class RememberingFonts(Fonts):
@@ -55,12 +64,17 @@ class RememberingFonts(Fonts):
 
     def __init__(self, noted, word, size, number):
         Fonts.__init__(self, noted.with_number(word, size, number).kept, None, None)
+        self.remembers = True
         self.parts = noted.parts
         self.place = (word, size)
 
     def remembered(self, path, style):
         part, notes = self.parts.get((path, style), (None, ()))
         return None if self.place in notes else part
+
+    def remember(self, path, style, part):
+        # It hangs on the number, which is another one just once.
+        return None
 
 
 class Run:
@@ -101,6 +115,7 @@ class DecidedFonts(Fonts):
 
     def __init__(self, fonts, step, stretches):
         Fonts.__init__(self, fonts.kept, None, None)
+        self.remembers = True
         self.step = step
         # What is known of formulas, by their paths and styles: these need not be laid out.
         self.stretches = stretches
@@ -115,7 +130,8 @@ class DecidedFonts(Fonts):
         if stretch is not None and stretch.has(self.step):
             self.turns.append(stretch.first)
             self.tests.append(stretch.last - self.step)
-            return Part(*stretch.sizes_at(self.step), [])
+            width, height, depth = stretch.sizes_at(self.step)
+            return Part(width, height, depth, [])
         self.begun.append((len(self.turns), len(self.tests)))
         return None
 
@@ -141,7 +157,7 @@ class DecidedFonts(Fonts):
         return is_there
 
     def repeats(self, each, bound, most):
-        found = Fonts.repeats(self, each, bound, most)
+        found = repeats_for(each, bound, most)
         self.turns.append(found)
         if found > 0:
             self.tests.append(bound - (found - 1) * each - 1)

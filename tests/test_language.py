@@ -10,7 +10,7 @@ PACKAGE = pathlib.Path(__file__).resolve().parent.parent / "mathboxes"
 
 BUILTINS = set(
     "len range enumerate zip min max sum abs sorted reversed int str bool bytes list tuple dict set frozenset isinstance "
-    "ord repr any all divmod pow Exception ValueError TypeError KeyError IndexError LookupError ZeroDivisionError "
+    "ord repr any all divmod pow type Exception ValueError TypeError KeyError IndexError LookupError ZeroDivisionError "
     "ArithmeticError OverflowError RuntimeError NotImplementedError AttributeError StopIteration NotImplemented".split()
 )
 METHODS = set(
