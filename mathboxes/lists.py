@@ -218,7 +218,9 @@ def settled(fonts, row, at, before):
             kind = "ord"
             is_late = True
     place.kind = kind
-    place.ahead = room_between(fonts, before, kind, place.style)
+    # Behind an open one, and so at the beginning of a row, there is never any space.
+    if before != "open":
+        place.ahead = room_between(fonts, before, kind, place.style)
     if kind == "ord" and not is_late:
         return paired(fonts, row, at)
     return at + 1

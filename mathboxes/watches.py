@@ -109,8 +109,9 @@ def sizes_behind(sizes, slopes, steps):
 class DecidedFonts(Fonts):
     """The fonts of one step of a move, which note what is decided by numbers, in order.
 
-    Each turn is a number that tells what was decided. The tests are numbers that are at least 0: as long as they stay
-    so, the turns stay as they are, too.
+    Each turn is a number that tells what was decided; one below 0 tells which stretch was known of a formula, and that
+    this was not laid out. The tests are numbers that are at least 0: as long as they stay so, the turns stay as they
+    are, too.
     """
 
     def __init__(self, fonts, step, stretches):
@@ -128,7 +129,7 @@ class DecidedFonts(Fonts):
     def remembered(self, path, style):
         stretch = self.stretches.get((path, style))
         if stretch is not None and stretch.has(self.step):
-            self.turns.append(stretch.first)
+            self.turns.append(-1 - stretch.first)
             self.tests.append(stretch.last - self.step)
             width, height, depth = stretch.sizes_at(self.step)
             return Part(width, height, depth, [])
