@@ -52,21 +52,13 @@ def box_of(fonts, formula, style):
 
 
 def formula_part(fonts, formula, style, path):
-    if fonts.remembers:
-        part = fonts.remembered(path, style)
-        if part is not None:
-            return part
     if len(formula) == 0:
-        part = Part(0, 0, 0, [])
-    elif len(formula) == 1 and formula[0][0] == "symbol":
+        return Part(0, 0, 0, [])
+    if len(formula) == 1 and formula[0][0] == "symbol":
         # Very many formulas are one symbol; it is all of its row, whatever its class is.
-        part = symbol_part(fonts, Place((*path, 0), formula[0], style))
-    else:
-        places = places_of(fonts, formula, style, path)
-        part = row_part(fonts, places, [part_at(fonts, place) for place in places])
-    if fonts.remembers:
-        fonts.remember(path, style, part)
-    return part
+        return symbol_part(fonts, Place((*path, 0), formula[0], style))
+    places = places_of(fonts, formula, style, path)
+    return row_part(fonts, places, [part_at(fonts, place) for place in places])
 
 
 def row_part(fonts, places, parts):
@@ -90,8 +82,15 @@ def row_part(fonts, places, parts):
 
 def part_at(fonts, place):
     """The box of an atom with its scripts, or of a kern."""
+    if fonts.remembers:
+        part = fonts.remembered(place)
+        if part is not None:
+            return part
     maker = MAKERS[place.item[0]]
-    return maker(fonts, place)
+    part = maker(fonts, place)
+    if fonts.remembers:
+        fonts.remember(place, part)
+    return part
 
 
 def kern_part(fonts, place):

@@ -6,7 +6,7 @@ from mathboxes.faces import check_place
 from mathboxes.formulas import check_formula
 from mathboxes.kinds import LIMIT, is_between, is_word
 from mathboxes.layout import formula_part
-from mathboxes.watches import DecidedFonts, Stretch, sizes_behind
+from mathboxes.watches import DecidedFonts, Run, Stretch, sizes_behind
 
 GRAIN = 9 * 10 ** 24
 MOST_STEPS = 10 ** 30
@@ -107,31 +107,30 @@ class Move:
     def goes_on(self):
         return self.at <= self.last
 
-    def runs_at(self, at):
-        """What comes of the formula, and of those within it, at a step."""
+    def run_at(self, at):
+        """What comes of the formula at a step, and what of the items within it."""
         changed = self.fonts.with_number(self.word, self.size, self.number + at * self.step)
         fonts = DecidedFonts(changed, at, self.stretches)
-        formula_part(fonts, self.formula, self.style, ())
-        return fonts.runs
+        part = formula_part(fonts, self.formula, self.style, ())
+        return Run(part, fonts.turns, fonts.tests), fonts.runs
 
     def next_stretch(self):
         """The next stretch of the formula.
 
         Sizes are made of numbers by sums and by parts that grow evenly, once it is decided which of two numbers is the
         greater one and the like. So they go in a straight line as long as nothing else is decided; and so do the tests,
-        of which two steps tell how long that is. A stretch that is known of a formula within serves as one test more.
+        of which two steps tell how long that is. A stretch that is known of an item serves as one test more.
         """
         first = self.at
-        runs = self.runs_at(first)
+        whole, runs = self.run_at(first)
+        self.found = Stretch(first, first, whole.sizes, FLAT)
         if first < self.last:
-            later = self.runs_at(first + 1)
-            for place, run in runs.items():
-                if later[place].turns == run.turns:
-                    self.stretches[place] = stretch_of(run, later[place], first, self.last)
-        whole = ((), self.style)
-        self.found = self.stretches.get(whole)
-        if self.found is None or not self.found.has(first):
-            self.found = Stretch(first, first, runs[whole].sizes, FLAT)
+            later_whole, later_runs = self.run_at(first + 1)
+            for key, run in runs.items():
+                if later_runs[key].turns == run.turns:
+                    self.stretches[key] = stretch_of(run, later_runs[key], first, self.last)
+            if later_whole.turns == whole.turns:
+                self.found = stretch_of(whole, later_whole, first, self.last)
         self.at = self.found.last + 1
         return self.found
 
@@ -143,7 +142,7 @@ class Move:
 
 
 def stretch_of(run, later, first, last):
-    """The stretch of a formula from a step on, told by what came of it there and a step later."""
+    """The stretch of a formula or an item from a step on, told by what came of it there and a step later."""
     slopes = tuple([after - before for before, after in zip(run.sizes, later.sizes)])
     many = last - first
     for before, after in zip(run.tests, later.tests):

@@ -1,12 +1,17 @@
 """Fonts that remember or note what is done with them while a formula is laid out.
 
-Of each formula, and of those within it, they are asked first whether its box is remembered, by its path and its style;
-if not, they are told the box as soon as it is there.
+Of each item that stands in a row they are asked first whether its box is remembered; if not, they are told the box as
+soon as it is there.
 """
 
 from mathboxes.fonts import Fonts
 from mathboxes.measures import repeats_for
 from mathboxes.parts import Part
+
+
+def key_of(place):
+    """What tells, for one formula, what stands at a place; symbols may be joined, or be text symbols, or not."""
+    return (place.path, place.scripts_path, place.style, place.is_text)
 
 
 class KeepingFonts(Fonts):
@@ -17,22 +22,22 @@ class KeepingFonts(Fonts):
         self.remembers = True
         self.parts = {}
 
-    def remembered(self, path, style):
-        return self.parts.get((path, style))
+    def remembered(self, place):
+        return self.parts.get(key_of(place))
 
-    def remember(self, path, style, part):
-        self.parts[path, style] = part
+    def remember(self, place, part):
+        self.parts[key_of(place)] = part
 
 
 class NotedFonts(Fonts):
-    """Fonts that note which numbers are looked at, as tuples (word, size), and by which formula."""
+    """Fonts that note which numbers are looked at, as tuples (word, size), and for which items."""
 
     def __init__(self, fonts):
         Fonts.__init__(self, fonts.kept, None, None)
         self.remembers = True
-        # What was noted of the formulas that are being laid out, the innermost one last; the first one is none of them.
+        # What was noted of the items that are being laid out, the innermost one last; ahead of them, of the whole.
         self.open_notes = [{}]
-        # For each formula that was laid out, by its path and style, its box and what was noted of it.
+        # For each item that was laid out its box and what was noted of it.
         self.parts = {}
 
     def number_of(self, word, size):
@@ -43,19 +48,19 @@ class NotedFonts(Fonts):
         self.open_notes[-1][word, None] = True
         return self._settings[word]
 
-    def remembered(self, path, style):
+    def remembered(self, place):
         self.open_notes.append({})
         return None
 
-    def remember(self, path, style, part):
+    def remember(self, place, part):
         notes = self.open_notes.pop()
-        self.parts[path, style] = (part, notes)
+        self.parts[key_of(place)] = (part, notes)
         around = self.open_notes[-1]
-        for place in notes:
-            around[place] = True
+        for number in notes:
+            around[number] = True
 
     def has_noted(self, word, size):
-        """Whether a number was looked at by any formula."""
+        """Whether a number was looked at at all."""
         return (word, size) in self.open_notes[0]
 
 
@@ -68,17 +73,17 @@ class RememberingFonts(Fonts):
         self.parts = noted.parts
         self.place = (word, size)
 
-    def remembered(self, path, style):
-        part, notes = self.parts.get((path, style), (None, ()))
+    def remembered(self, place):
+        part, notes = self.parts.get(key_of(place), (None, ()))
         return None if self.place in notes else part
 
-    def remember(self, path, style, part):
+    def remember(self, place, part):
         # It hangs on the number, which is another one just once.
         return None
 
 
 class Run:
-    """What came of a formula that was laid out once: its sizes, and what was decided on the way to them."""
+    """What came of an item or a formula that was laid out once: its sizes, and what was decided on the way to them."""
 
     def __init__(self, part, turns, tests):
         self.sizes = (part.width, part.height, part.depth)
@@ -87,7 +92,7 @@ class Run:
 
 
 class Stretch:
-    """Steps in which the sizes of a formula go in a straight line."""
+    """Steps in which the sizes of an item or a formula go in a straight line."""
 
     def __init__(self, first, last, sizes, slopes):
         self.first = first
@@ -109,7 +114,7 @@ def sizes_behind(sizes, slopes, steps):
 class DecidedFonts(Fonts):
     """The fonts of one step of a move, which note what is decided by numbers, in order.
 
-    Each turn is a number that tells what was decided; one below 0 tells which stretch was known of a formula, and that
+    Each turn is a number that tells what was decided; one below 0 tells which stretch was known of an item, and that
     this was not laid out. The tests are numbers that are at least 0: as long as they stay so, the turns stay as they
     are, too.
     """
@@ -118,16 +123,16 @@ class DecidedFonts(Fonts):
         Fonts.__init__(self, fonts.kept, None, None)
         self.remembers = True
         self.step = step
-        # What is known of formulas, by their paths and styles: these need not be laid out.
+        # What is known of items: these need not be laid out.
         self.stretches = stretches
         self.turns = []
         self.tests = []
-        # For the formulas that are being laid out, how many turns and tests there were ahead of them.
+        # For the items that are being laid out, how many turns and tests there were ahead of them.
         self.begun = []
         self.runs = {}
 
-    def remembered(self, path, style):
-        stretch = self.stretches.get((path, style))
+    def remembered(self, place):
+        stretch = self.stretches.get(key_of(place))
         if stretch is not None and stretch.has(self.step):
             self.turns.append(-1 - stretch.first)
             self.tests.append(stretch.last - self.step)
@@ -136,9 +141,9 @@ class DecidedFonts(Fonts):
         self.begun.append((len(self.turns), len(self.tests)))
         return None
 
-    def remember(self, path, style, part):
+    def remember(self, place, part):
         turns, tests = self.begun.pop()
-        self.runs[path, style] = Run(part, self.turns[turns:], self.tests[tests:])
+        self.runs[key_of(place)] = Run(part, self.turns[turns:], self.tests[tests:])
 
     def greatest(self, numbers):
         found = max(numbers)
