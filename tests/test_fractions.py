@@ -111,13 +111,15 @@ class Fraction(Case):
 
     def test_marks_and_sizes(self):
         num, den = Box(30, 20, 10, [rule(1, 2), glyph(3, 4)]), Box(41, 25, 15, [glyph(5, 6)])
-        for style, size in enumerate(SIZES):
-            fonts = fonts_with({"axis": 50, "rule": 7}, {"empty": 9})
+        for style in range(8):
+            fonts = fonts_with({"axis": 12, "rule": 7}, {"empty": 9})
             up, down = fraction_shifts(fonts, style, num, den)
+            # At least 3 * 7 or 7 are free above and below the rule, which reaches from 9 to 16.
+            least = 21 if style <= 1 else 7
+            self.assertEqual((up, down), (16 + least + 10, 25 + least - 9))
             told = fraction(fonts, style, num, den)
             self.assertEqual(told, Box(9 + 41 + 9, up + 20, down + 15, [
-                rule(9 + 5 + 1, up + 2), glyph(9 + 5 + 3, up + 4), glyph(9 + 5, -down + 6),
-                rule(9, 50 + 4 - 7, 41, 7, ()),
+                rule(9 + 5 + 1, up + 2), glyph(9 + 5 + 3, up + 4), glyph(9 + 5, -down + 6), rule(9, 9, 41, 7, ()),
             ]))
 
     def test_middles(self):

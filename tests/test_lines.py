@@ -259,6 +259,28 @@ class Best(Case):
         self.assertEqual(broken(line_fonts(), lines_of(20, 20, 30, kinds=["bin", "rel"]), 2, "behind", 60, (0, 1200)), [2])
         self.assertEqual(broken(line_fonts(), lines_of(20, 20, 30, kinds=["bin", "rel"]), 2, "behind", 60, (0, 1199)), [4])
 
+    def test_fewest_breaks(self):
+        # The space behind the rel falls away at 4; a break at 2 does neither good nor harm, but is one more.
+        fonts = line_fonts({"thick": 1, "indent": 50}, {"quad": 180})
+        row = [wide(60), wide(0, "bin"), wide(0), wide(0, "rel"), wide(0)]
+        for breaks, excess in (([], 30), ([2], 30), ([4], 20), ([2, 4], 20)):
+            self.assertEqual(line_costs(fonts, row, 2, "behind", breaks, 50, (0, 0)), (excess, 0))
+        self.assertEqual(broken(fonts, row, 2, "behind", 50, (0, 0)), [4])
+        self.assertEqual(pages(fonts, row, 2, "behind", (0, 0), 50, 50), [(50, 50, [4])])
+
+    def test_badness_that_crosses_between_needs(self):
+        rows = [
+            ([38, 13, 35, 18], (646, 81), [(48, 58, [2, 6]), (59, 65, [4]), (66, 66, [2]), (67, 85, [4]), (86, 103, [6])]),
+            ([28, 5, 38, 12], (847, 273), [(43, 52, [2, 6]), (53, 54, [4]), (55, 70, [2]), (71, 82, [6])]),
+            ([13, 12, 13, 12], (719, 115), [(25, 35, [2, 6]), (36, 36, [4]), (37, 37, [2]), (38, 49, [6])]),
+        ]
+        for widths, costs, expected in rows:
+            row = lines_of(*widths, kinds=["rel", "bin", "rel"])
+            first, last = expected[0][0], expected[-1][1]
+            self.assertEqual(pages(line_fonts(), row, 2, "behind", costs, first, last), expected)
+            one_by_one = Told(line_fonts(), row, 2, "behind")
+            self.follows(expected, first, last, [(width, one_by_one.best(width, costs)) for width in range(first, last + 1)])
+
     def test_all_widths(self):
         chance = random.Random(3)
         for _ in range(60):

@@ -172,13 +172,37 @@ class Pieces(Case):
         chance = random.Random(1)
         many = 0
         for _ in range(60):
-            fonts = chance_fonts(chance, chance.choice([20, 60, 150]) * GRAIN)
+            fonts = chance_fonts(chance, chance.choice([9, 20, 60, 150]) * GRAIN)
             for word in ("thin", "medium", "thick"):
                 fonts = fonts.changed(word, None, chance.randrange(40))
             formula, style = Maker(chance).formula(), chance.randrange(8)
             place = felt_place(chance, fonts, formula, style)
             many += len(self.check(fonts, formula, style, place, GRAIN * chance.choice([1, 3, 7]), chance.randrange(60)))
         self.assertGreater(many, 100)
+
+    def test_glyphs_that_are_taken_for_one_step(self):
+        def glyph(width, height, later):
+            return (width * GRAIN, height * GRAIN, 0, 0, later, None)
+        # Each step makes the least total 20 grains greater, and the accented box 15.
+        glyphs = {
+            "p": glyph(1, 5, "q"), "q": glyph(2, 25, "r"), "r": glyph(3, 45, "s"), "s": glyph(4, 50, "t"),
+            "t": glyph(5, 90, "u"), "u": glyph(6, 300, None),
+            "hat": glyph(1, 7, "hot"), "hot": glyph(30, 3, "hut"), "hut": glyph(45, 9, "hit"), "hit": glyph(50, 19, None),
+        }
+        p = (0, "p", 0, "p")
+        fence = ("fence", p, [over()], None, None, None)
+        accent = ("accent", 0, "hat", [("kern", 15, "mu")], None, None)
+        for step in (1, 2, 3, 5):
+            fonts = fonts_with({("rule", 0): 0, ("quad", 0): 0}, {}, glyphs)
+            self.check(fonts, [fence], 0, ("rule", 0), 4 * step * GRAIN, 12)
+            self.check(fonts, [accent], 0, ("quad", 0), 18 * step * GRAIN, 12)
+            self.check(fonts, [accent, fence], 0, ("quad", 0), 6 * step * GRAIN, 12)
+        for high in (5, 50, 60):
+            extending = {"e": (9, 0, 0, 0, None, (None, None, None, "r")), "r": glyph(3, high, None)}
+            e = (0, "e", 0, "e")
+            for step in (1, 2, 3, 5):
+                fonts = fonts_with({("rule", 0): 0}, {}, extending)
+                self.check(fonts, [("fence", e, [over()], e, None, None)], 0, ("rule", 0), step * GRAIN, 70)
 
     def test_great_numbers(self):
         chance = random.Random(2)
@@ -232,7 +256,7 @@ class Steps(Case):
         rows = [
             ([symbol()], [symbol(), over()], 21), ([symbol()], [symbol()], None), ([symbol()], [symbol("b")], 0),
             ([over()], [over(), symbol()], 0), ([over()], [over(), kern(0)], None), ([over()], [over(), kern(1)], 0),
-            ([over()], [], 1), ([symbol("a"), over()], [symbol("b"), over()], 0),
+            ([over()], [], 1), ([over(symbol())], [symbol()], 1), ([over(symbol("b"))], [symbol("b")], 1), ([symbol("a"), over()], [symbol("b"), over()], 0),
             ([symbol("a"), over(), symbol("a")], [over(), ("under", [symbol("a")], None, None)], 1),
         ]
         for one, other, step in rows:
