@@ -41,11 +41,11 @@ def wrong_part(box):
         return "box"
     width, height, depth, marks = box.width, box.height, box.depth, box.marks
     # Boxes are checked very often: what is plainly right is seen here, and is_signed tells only of the rest.
-    if not (type(width) is int and LEAST <= width <= LIMIT or is_signed(width)):
+    if not (type(width) == int and LEAST <= width <= LIMIT or is_signed(width)):
         return "width"
-    if not (type(height) is int and LEAST <= height <= LIMIT or is_signed(height)):
+    if not (type(height) == int and LEAST <= height <= LIMIT or is_signed(height)):
         return "height"
-    if not (type(depth) is int and LEAST <= depth <= LIMIT or is_signed(depth)):
+    if not (type(depth) == int and LEAST <= depth <= LIMIT or is_signed(depth)):
         return "depth"
     if not isinstance(marks, list) or not are_marks(marks):
         return "marks"
@@ -58,9 +58,9 @@ def are_marks(marks):
         if not isinstance(placed, tuple) or len(placed) != 3:
             return False
         x, y, mark = placed
-        if not (type(x) is int and LEAST <= x <= LIMIT or is_signed(x)):
+        if not (type(x) == int and LEAST <= x <= LIMIT or is_signed(x)):
             return False
-        if not (type(y) is int and LEAST <= y <= LIMIT or is_signed(y)):
+        if not (type(y) == int and LEAST <= y <= LIMIT or is_signed(y)):
             return False
         if not isinstance(mark, tuple):
             return False
@@ -68,17 +68,17 @@ def are_marks(marks):
             word, path, width, height = mark
             if not isinstance(word, str) or word != "rule":
                 return False
-            if not (type(width) is int and LEAST <= width <= LIMIT or is_signed(width)):
+            if not (type(width) == int and LEAST <= width <= LIMIT or is_signed(width)):
                 return False
-            if not (type(height) is int and LEAST <= height <= LIMIT or is_signed(height)):
+            if not (type(height) == int and LEAST <= height <= LIMIT or is_signed(height)):
                 return False
         elif len(mark) == 5:
             word, path, family, size, name = mark
             if not isinstance(word, str) or word != "glyph":
                 return False
-            if not (type(family) is int or is_integer(family)) or not 0 <= family < MOST_FAMILIES:
+            if not (type(family) == int or is_integer(family)) or not 0 <= family < MOST_FAMILIES:
                 return False
-            if not (type(size) is int or is_integer(size)) or not 0 <= size < SIZES:
+            if not (type(size) == int or is_integer(size)) or not 0 <= size < SIZES:
                 return False
             if not (isinstance(name, str) and len(name) <= MOST_LETTERS):
                 return False
@@ -89,7 +89,7 @@ def are_marks(marks):
         if not isinstance(path, tuple):
             return False
         for step in path:
-            if not ((type(step) is int or is_integer(step)) and step >= 0):
+            if not ((type(step) == int or is_integer(step)) and step >= 0):
                 return False
     return True
 

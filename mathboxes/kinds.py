@@ -23,21 +23,21 @@ def is_integer(value):
 
 
 def is_between(value, least, greatest):
-    if type(value) is not int and (not isinstance(value, int) or value is True or value is False):
+    if type(value) != int and (not isinstance(value, int) or value is True or value is False):
         return False
     return least <= value <= greatest
 
 
 def is_amount(value):
     """An integer from 0 to 10 ** 60."""
-    if type(value) is not int and (not isinstance(value, int) or value is True or value is False):
+    if type(value) != int and (not isinstance(value, int) or value is True or value is False):
         return False
     return 0 <= value <= LIMIT
 
 
 def is_signed(value):
     """An integer from -10 ** 60 to 10 ** 60."""
-    if type(value) is not int and (not isinstance(value, int) or value is True or value is False):
+    if type(value) != int and (not isinstance(value, int) or value is True or value is False):
         return False
     return LEAST <= value <= LIMIT
 
@@ -65,19 +65,19 @@ def is_sequence(value):
 
 def is_family(value):
     """What a formula or a mark may tell as a family; fonts may have fewer."""
-    if type(value) is not int and (not isinstance(value, int) or value is True or value is False):
+    if type(value) != int and (not isinstance(value, int) or value is True or value is False):
         return False
     return 0 <= value < MOST_FAMILIES
 
 
 def is_size(value):
-    if type(value) is not int and (not isinstance(value, int) or value is True or value is False):
+    if type(value) != int and (not isinstance(value, int) or value is True or value is False):
         return False
     return 0 <= value < SIZES
 
 
 def is_style(value):
-    if type(value) is not int and (not isinstance(value, int) or value is True or value is False):
+    if type(value) != int and (not isinstance(value, int) or value is True or value is False):
         return False
     return 0 <= value < STYLES
 
@@ -86,7 +86,7 @@ def is_path(value):
     if not isinstance(value, tuple):
         return False
     for step in value:
-        if not ((type(step) is int or is_integer(step)) and step >= 0):
+        if not ((type(step) == int or is_integer(step)) and step >= 0):
             return False
     return True
 
