@@ -2,7 +2,7 @@
 
 from mathboxes.boxes import check_box_argument
 from mathboxes.checks import check_fonts, check_signed, check_style
-from mathboxes.measures import half, size_of
+from mathboxes.measures import SIZES_OF_STYLES, half, size_of
 from mathboxes.parts import Part, boxed, lifted
 
 
@@ -44,13 +44,13 @@ def accented(fonts, style, family, name, inner, old_inner=None, skew=0):
     """A box with an accent; another box may tell where the accent stands."""
     check_fonts(fonts)
     check_style(style)
-    fonts.glyph(family, size_of(style), name)
+    glyph = fonts.glyph(family, size_of(style), name)
     check_box_argument(inner, "inner")
     if old_inner is not None:
         check_box_argument(old_inner, "old_inner")
     check_signed(skew, "skew")
     old = inner if old_inner is None else old_inner
-    return boxed(accented_part(fonts, style, family, name, inner, old, skew, ()))
+    return boxed(accented_part(fonts, style, (family, name, glyph), inner, old, skew, ()))
 
 
 def check_bar(fonts, style, inner):
@@ -79,23 +79,19 @@ def centered_part(fonts, style, inner):
     return lifted(inner, height - inner.height)
 
 
-def accented_part(fonts, style, family, name, inner, old, skew, path):
-    """As accented, without its checks, with a mark of a path; the accent must be there."""
-    size = size_of(style)
-    taken, (width, height, depth, slant, _, _) = accent_taken(fonts, family, size, name, old.width)
+def accented_part(fonts, style, told, inner, old, skew, path):
+    """As accented, without its checks, with a mark of a path; told are the family, the name and the glyph."""
+    size = SIZES_OF_STYLES[style]
+    family, name, glyph = told
+    # As long as it is not too wide, the next one of the chain is taken.
+    while glyph[4] is not None:
+        later = fonts.glyph_if_any(family, size, glyph[4])
+        if not fonts.reaches(old.width, later[0]):
+            break
+        name, glyph = glyph[4], later
+    width, height, depth, slant, _, _ = glyph
     # How far the lower end of the accent stands above the baseline: what OLD has above xheight.
     baseline = fonts.greatest([0, old.height - fonts.number_of("xheight", size)]) + depth
     left = skew + half(old.width - (width + slant))
-    marks = [(0, 0, inner), (left, baseline, ("glyph", path, family, size, taken))]
+    marks = [(0, 0, inner), (left, baseline, ("glyph", path, family, size, name))]
     return Part(inner.width, fonts.greatest([inner.height, baseline + height]), inner.depth, marks)
-
-
-def accent_taken(fonts, family, size, name, width):
-    """The accent of a chain that is taken for a width, as a tuple (name, glyph)."""
-    glyph = fonts.glyph_if_any(family, size, name)
-    while glyph[4] is not None:
-        later = fonts.glyph_if_any(family, size, glyph[4])
-        if not fonts.reaches(width, later[0]):
-            break
-        name, glyph = glyph[4], later
-    return name, glyph

@@ -47,7 +47,7 @@ def wrong_part(box):
         return "height"
     if not (type(depth) == int and LEAST <= depth <= LIMIT or is_signed(depth)):
         return "depth"
-    if not isinstance(marks, list) or not are_marks(marks):
+    if not isinstance(marks, list) or (marks and not are_marks(marks)):
         return "marks"
     return None
 

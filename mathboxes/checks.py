@@ -1,8 +1,11 @@
-"""Checks of arguments: each one raises InvalidArgument with the name of a parameter that is not as told."""
+"""Checks of arguments: each one raises InvalidArgument with the name of a parameter that is not as told.
+
+What is plainly right is seen at once, without a call: these checks run very often.
+"""
 
 from mathboxes.errors import InvalidArgument
 from mathboxes.fonts import Fonts
-from mathboxes.kinds import is_amount, is_delimiter, is_signed, is_size, is_style
+from mathboxes.kinds import LEAST, LIMIT, STYLES, is_amount, is_delimiter, is_signed, is_size, is_style
 
 
 def check_fonts(fonts):
@@ -11,7 +14,7 @@ def check_fonts(fonts):
 
 
 def check_style(style):
-    if not is_style(style):
+    if not (type(style) == int and 0 <= style < STYLES or is_style(style)):
         raise InvalidArgument("style")
 
 
@@ -27,11 +30,11 @@ def check_delimiter(delimiter):
 
 def check_amount(value, part):
     """An integer from 0 to 10 ** 60."""
-    if not is_amount(value):
+    if not (type(value) == int and 0 <= value <= LIMIT or is_amount(value)):
         raise InvalidArgument(part)
 
 
 def check_signed(value, part):
     """An integer from -10 ** 60 to 10 ** 60."""
-    if not is_signed(value):
+    if not (type(value) == int and LEAST <= value <= LIMIT or is_signed(value)):
         raise InvalidArgument(part)

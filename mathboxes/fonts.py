@@ -3,7 +3,7 @@
 from mathboxes.errors import InvalidArgument, InvalidFont, InvalidNumber, NoGlyph
 from mathboxes.faces import SETTING_WORDS
 from mathboxes.faces import check_families, check_numbers, check_place, check_settings, is_number_for
-from mathboxes.kinds import is_family, is_name, is_size
+from mathboxes.kinds import SIZES, is_integer, is_name, is_size
 from mathboxes.measures import repeats_for
 
 
@@ -49,9 +49,9 @@ class Fonts:
         return len(self._families)
 
     def glyph(self, family, size, name):
-        if not is_family(family) or family >= len(self._families):
+        if not (type(family) == int or is_integer(family)) or not 0 <= family < len(self._families):
             raise InvalidArgument("family")
-        if not is_size(size):
+        if not (type(size) == int and 0 <= size < SIZES or is_size(size)):
             raise InvalidArgument("size")
         if not is_name(name):
             raise InvalidArgument("name")

@@ -185,11 +185,13 @@ def is_lone(formula):
 
 def accent_part(fonts, place):
     _, family, name, formula, sup, sub = place.item
-    if fonts.glyph_if_any(family, place.size, name) is None:
+    glyph = fonts.glyph_if_any(family, place.size, name)
+    if glyph is None:
         raise NoGlyph(family, name)
+    accent = (family, name, glyph)
     old = inner_part(fonts, place, 3)
     if not is_lone(formula):
-        part = accented_part(fonts, place.style, family, name, old, old, 0, place.path)
+        part = accented_part(fonts, place.style, accent, old, old, 0, place.path)
         return with_own_scripts(fonts, place, part)
     _, kind, symbol_family, symbol_name, _, _ = formula[0]
     skew = fonts.skew_of(symbol_family, place.size, symbol_name)
@@ -199,7 +201,7 @@ def accent_part(fonts, place):
         lone = Place((*place.path, 3, 0), ("symbol", kind, symbol_family, symbol_name, sup, sub), place.style)
         lone.scripts_path = place.path
         inner = symbol_part(fonts, lone)
-    return accented_part(fonts, place.style, family, name, inner, old, skew, place.path)
+    return accented_part(fonts, place.style, accent, inner, old, skew, place.path)
 
 
 def operator_part(fonts, place):

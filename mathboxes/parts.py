@@ -39,7 +39,7 @@ def boxed(part):
         if isinstance(mark, Box):
             if x == 0 and y == 0:
                 marks.extend(mark.marks)
-            else:
+            elif mark.marks:
                 marks.extend([(x + dx, y + dy, inner) for dx, dy, inner in mark.marks])
         elif isinstance(mark, tuple):
             marks.append((x, y, mark))
